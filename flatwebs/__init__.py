@@ -1,0 +1,1 @@
+"""Webs drawn flat, told by one table of turns."""

@@ -1,0 +1,1 @@
+"""Names, webs, rings and drawings."""

@@ -1,0 +1,64 @@
+"""Marks: sets of places told as one number, the place with index k as the bit k.
+
+Most questions here ask what hangs together without some places, very often;
+numbers answer them faster than new webs.
+"""
+
+
+def near_marks(places, ties):
+    """The marks of the neighbours of each place, in the order of the places."""
+    near = [0 for _ in places]
+    for a, b in ties:
+        i = places.index(a)
+        j = places.index(b)
+        near[i] = near[i] | (1 << j)
+        near[j] = near[j] | (1 << i)
+    return near
+
+
+def full_mark(many):
+    """The mark of all of so many places."""
+    return (1 << many) - 1
+
+
+def mark_of(places, some):
+    """The mark of some of the places."""
+    return sum([1 << k for k, place in enumerate(places) if place in some])
+
+
+def marked(places, mark):
+    """The places of a mark, ascending as the places are."""
+    return tuple([place for k, place in enumerate(places) if mark >> k & 1])
+
+
+def bits_of(mark):
+    """The indices of the places of a mark, ascending."""
+    return [k for k in range(mark.bit_length()) if mark >> k & 1]
+
+
+def grown_mark(near, within, start):
+    """What hangs together with the places of `start` by places within a mark."""
+    found = start
+    fresh = start
+    while fresh:
+        low = fresh & -fresh
+        more = near[low.bit_length() - 1] & within & ~found
+        found = found | more
+        fresh = (fresh ^ low) | more
+    return found
+
+
+def lot_marks(near, within):
+    """The marks of the lots of the places within a mark, by their least places."""
+    lots = []
+    rest = within
+    while rest:
+        lot = grown_mark(near, within, rest & -rest)
+        lots.append(lot)
+        rest = rest & ~lot
+    return lots
+
+
+def is_one_lot(near, within):
+    """Whether the places within a mark, at least one, hang together."""
+    return within != 0 and grown_mark(near, within, within & -within) == within

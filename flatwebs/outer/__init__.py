@@ -1,0 +1,1 @@
+"""Webs whose places all lie on one rim."""

@@ -1,0 +1,1 @@
+"""The blocks of a web, and where they part."""

@@ -106,6 +106,16 @@ class Tables(Case):
         self.refuses(InvalidTable, rims_of, APART, None)
         self.refuses(InvalidTable, Drawing, APART, {})
 
+    def test_webs_that_fall_apart(self):
+        # [0.23]: rims in the number of a drawing do not make one of a web that falls apart.
+        twisted = {"a": ("b", "c", "d"), "b": ("a", "c", "d"), "c": ("a", "b", "d"), "d": ("a", "b", "c")}
+        for web, table in ((FOUR + Web.of_ties(("y", "z")), {**twisted, "y": ("z",), "z": ("y",)}),
+                           (FOUR.with_place("y").with_place("z"), {**twisted, "y": (), "z": ()})):
+            self.is_bool(is_table(web, table), True)
+            self.is_bool(is_drawing(web, table), False)
+            self.refuses(InvalidDrawing, Drawing, web, table)
+            self.refuses(InvalidOperation, lack_of, web, table)
+
     def test_no_webs(self):
         for value in not_webs():
             for call in (is_table, rims_of, lack_of, is_drawing, Drawing):

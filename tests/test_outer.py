@@ -19,7 +19,7 @@ from tests.samples import (
 FAN = KITE.with_place("e").with_tie("b", "e").with_tie("d", "e")
 FORTY = Web(TWELVE, tuple(itertools.combinations(TWELVE, 2))[:40])
 SAMPLES = [ONE, TWO, APART, BOW, GLUED, HOUSES, KITE, PRISM, WHEEL, FOUR, FAN, FORTY, *webs_on(4),
-           *some_webs(5, 6, 40, 1), *some_webs(5, 7, 40, 2), *some_webs(6, 8, 40, 3), *some_webs(6, 9, 40, 4)]
+           *some_webs(5, 6, 40, 1), *some_webs(5, 7, 40, 2), *some_webs(6, 8, 80, 3), *some_webs(6, 9, 80, 4)]
 BLOCKS = [web for web in SAMPLES if slow_is_block(web)]
 NO_BLOCKS = [web for web in SAMPLES if not slow_is_block(web)]
 PLAIN_RINGS = [("a", "b", "c"), ("a", "c", "b", "d"), ("a", "c", "b", "e", "d"), ("a", "f", "c", "b", "e", "g"),
@@ -105,6 +105,8 @@ class Rings(Case):
                       *OBJECTS]:
             self.refuses(InvalidTie, do_cross, ring, wrong, ("a", "b"))
             self.refuses(InvalidTie, do_cross, ring, ("a", "b"), wrong)
+        self.refuses(InvalidTie, do_cross, ("b", "d", "c"), ("a", "b"), ("b", "c"))
+        self.refuses(InvalidTie, do_cross, ("b", "d", "c"), ("b", "c"), ("a", "b"))
 
     def test_outer_rings(self):
         found = 0
@@ -194,6 +196,13 @@ class Reasons(Case):
         self.is_bool(is_reason(WHEEL, ("two", (("a", "c"), ("b", "h", "d")), two)), False)
         self.is_bool(is_reason(WHEEL, ("two", (("b", "d", "h"), ("a", "c")), two)), False)
         self.is_bool(is_reason(WHEEL, ("two", (("a", "c"), ("b", "d", "h"), ()), two)), False)
+
+    def test_too_many_places(self):
+        # What is a bar of stage 6 is no reason.
+        five = every_full(5)
+        self.is_bool(is_reason(five, ("four", five.places, five.ties)), False)
+        self.is_bool(is_reason(HOUSES, ("two", (("a", "b", "c"), ("d", "e", "f")), HOUSES.ties)), False)
+        self.is_bool(is_reason(FOUR, ("four", ("a", "b", "c"), (("a", "b"), ("a", "c"), ("b", "c")))), False)
 
     def test_routes_that_meet(self):
         web = Web.of_ties(*[(a, x) for a in "ab" for x in "dexy"], ("x", "y"), ("e", "x"), ("c", "x"), ("c", "y"))

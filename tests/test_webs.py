@@ -36,6 +36,7 @@ class Making(Case):
                      {("a", "b"): 1}, (("a", "b"), None), None, True, 3, "ab", (1,), (("a", ("b",)),), *OBJECTS]:
             self.refuses(InvalidWeb, Web, ("a", "b"), ties)
         self.refuses(InvalidWeb, Web, ("a", "b", "c"), (("a", "c"), ("a", "b")))
+        self.refuses(InvalidWeb, Web, ("b", "c"), (("a", "b"), ("b", "c")))
         self.refuses(InvalidWeb, Web, TWELVE, PAIRS[:41])
         self.refuses(InvalidWeb, Web, None, None)
 

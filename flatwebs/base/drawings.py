@@ -63,12 +63,12 @@ class Drawing:
         """The drawing whose rims these are, in any order, each one told from any place on."""
         behind = _behind_by(rims)
         table = {place: _told_round(behind[place]) for place in behind}
-        if not table or not all([table[place] for place in table]):
+        if not all([table[place] for place in table]):
             raise InvalidDrawing("these are not the rims of a drawing")
         try:
             web = _told_web(table)
         except InvalidWeb:
-            raise InvalidDrawing("the rims have more places or ties than a web") from None
+            raise InvalidDrawing("no web has the places and ties of these rims") from None
         return cls(web, table)
 
     @property
@@ -202,7 +202,7 @@ def _walked_rims(table):
             onward[(before, place)] = (place, behind)
     done = {}
     rims = []
-    for start in sorted(onward):
+    for start in onward:
         if start not in done:
             walk = _walk_from(start, onward)
             for step in walk:
@@ -248,8 +248,7 @@ def _told_web(table):
 def _behind_by(rims):
     """For each place, where one goes on who comes from a neighbour, as these rims tell.
 
-    An empty dict if no drawing has these rims, because they tell a tie twice or in one
-    direction only.
+    An empty dict if one of them is no rim, or if they tell a tie twice in one direction.
     """
     behind = {}
     for rim in rims:
@@ -257,7 +256,7 @@ def _behind_by(rims):
             return {}
         for k, place in enumerate(rim):
             steps = behind.setdefault(place, {})
-            if rim[k - 1] == place or rim[k - 1] in steps:
+            if rim[k - 1] in steps:
                 return {}
             steps[rim[k - 1]] = rim[(k + 1) % len(rim)]
     return behind

@@ -61,4 +61,4 @@ def lot_marks(near, within):
 
 def is_one_lot(near, within):
     """Whether the places within a mark, at least one, hang together."""
-    return within != 0 and grown_mark(near, within, within & -within) == within
+    return grown_mark(near, within, within & -within) == within

@@ -28,10 +28,8 @@ def do_cross(ring, one, other):
 def outer_ring(web):
     """The outer ring of a block, None if there is none."""
     need_block(web)
-    if len(web.ties) > _full_ties(web):
-        return None
     ring = _ring_by_ears(web)
-    return plain_ring(ring) if ring and _is_uncrossed(web, ring) else None
+    return plain_ring(ring) if ring else None
 
 
 def is_outer_ring(web, value):
@@ -49,9 +47,10 @@ def reason_against(web):
         fewer = bare.without_tie(a, b)
         if not is_outer_web(fewer):
             bare = fewer
-    # What is left has no tie too many, so it is nothing but the routes of a reason.
+    # What is left has no tie too many, so it is just the routes of a reason. Routes between
+    # four are single ties then: with a place within one of them there were fewer, between two.
     joints = tuple([place for place in bare.places if len(bare.neighbours(place)) > 2])
-    return _reason_of_four(bare, joints) if len(joints) == 4 else _reason_of_two(bare, joints)
+    return ("four", joints, bare.ties) if len(joints) == 4 else _reason_of_two(bare, joints)
 
 
 def is_reason(web, value):
@@ -67,9 +66,8 @@ def is_reason(web, value):
     pair, three = places
     if not _is_row(web, pair, 2) or not _is_row(web, three, 3):
         return False
-    corners = pair + three
     pairs = [(a, b) for a in pair for b in three]
-    return are_different(corners, 5) and joins(web, corners, pairs, routes)
+    return joins(web, pair + three, pairs, routes)
 
 
 def is_outer_web(web):
@@ -137,7 +135,7 @@ def filled_web(web):
         raise InvalidOperation("the web is not outer")
     ties = list(web.ties)
     for pair in all_pairs(web.places):
-        if pair not in ties and not any([_is_crossing(ring, pair, tie) for tie in ties]):
+        if not any([_is_crossing(ring, pair, tie) for tie in ties]):
             ties.append(pair)
     return gathered_web(web.places, ties)
 
@@ -216,20 +214,12 @@ def _is_crossing(ring, one, other):
     return len(inside) == 1 and len(beyond) == 1
 
 
-def _is_uncrossed(web, ring):
-    """Whether a ring through all places is one of the web, and none of its ties cross over it."""
-    sides = ring_ties(ring)
-    inner = [tie for tie in web.ties if tie not in sides]
-    if not all([tie in web.ties for tie in sides]):
-        return False
-    return not any([_is_crossing(ring, one, other) for one, other in all_pairs(inner)])
-
-
 def _ring_by_ears(web):
-    """The only ring that can be the outer one of a block, () if none can.
+    """The outer ring of a block, told from any place on; () if there is none.
 
-    A place with two neighbours lies between them on it, so the ring is that of the web in
-    which a tie takes its place, with this place put in again.
+    A place with two neighbours lies between them on it, and each outer block has such a
+    place. So the ring is that of the block in which a tie takes its place, with this place
+    put in again where this tie is on the ring.
     """
     if len(web.places) == 3:
         return web.places
@@ -243,13 +233,6 @@ def _ring_by_ears(web):
     ring = _ring_by_ears(rest)
     spots = [k for k, (a, b) in enumerate(steps_of(ring)) if pair_of(a, b) == near]
     return ring[:spots[0] + 1] + (ears[0],) + ring[spots[0] + 1:] if spots else ()
-
-
-def _reason_of_four(web, four):
-    """The reason of a web that is just the routes between four joints."""
-    routes = [_way_on(web, place, step, four) for place in four for step in web.neighbours(place)]
-    return ("four", four, tuple(sorted([way for way in routes if way[0] < way[-1]],
-                                       key=lambda way: (way[0], way[-1]))))
 
 
 def _reason_of_two(web, pair):

@@ -46,8 +46,7 @@ def is_parting(web, value):
         return False
     if not is_ascending(value) or len(value) == len(web.places):
         return False
-    near = near_marks(web.places, web.ties)
-    return not is_one_lot(near, full_mark(len(near)) & ~mark_of(web.places, value))
+    return _parts(near_marks(web.places, web.ties), mark_of(web.places, value))
 
 
 def is_least_parting(web, value):
@@ -86,7 +85,7 @@ def sides_at(web, a, b):
     need_places(web, a, b)
     near = near_marks(web.places, web.ties)
     pair = mark_of(web.places, (a, b))
-    if a == b or not _parts(near, pair):
+    if not _parts(near, pair):
         raise InvalidOperation("the two places do not part the web")
     lots = lot_marks(near, full_mark(len(near)) & ~pair)
     sides = [marked(web.places, lot) for lot in lots]
@@ -112,9 +111,8 @@ def _blocks_within(near, lot):
 
 
 def _parts(near, mark):
-    """Whether the web falls apart without the places of a mark."""
-    rest = full_mark(len(near)) & ~mark
-    return rest != 0 and not is_one_lot(near, rest)
+    """Whether the web falls apart without the places of a mark, which are not all."""
+    return not is_one_lot(near, full_mark(len(near)) & ~mark)
 
 
 def _is_least(near, mark):

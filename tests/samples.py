@@ -4,9 +4,10 @@ import itertools
 import random
 import unittest
 
-from flatwebs.base.drawings import Drawing
-from flatwebs.base.webs import Web, full_web
+from flatwebs.base.drawings import Drawing, is_drawing
+from flatwebs.base.webs import Web, full_web, ring_web
 from flatwebs.errors import InvalidNumber, ParseError, UnknownName, WebError
+from flatwebs.tree.parts import PartTree
 
 FOUR = Web.from_lines("tie a b", "tie a c", "tie a d", "tie b c", "tie b d", "tie c d")
 KITE = Web.from_lines("tie a b", "tie a c", "tie b c", "tie b d", "tie c d")
@@ -18,6 +19,13 @@ GLUED = Web.from_lines("tie a b", "tie a c", "tie a d", "tie b c", "tie b d", "t
 HOUSES = Web.from_lines("tie a d", "tie a e", "tie a f", "tie b d", "tie b e", "tie b f", "tie c d", "tie c e",
                         "tie c f")
 BOW = Web.of_ties(("a", "b"), ("a", "c"), ("b", "c"), ("c", "d"), ("c", "e"), ("d", "e"), ("e", "f"))
+THREE = Web.of_ties(("a", "x"), ("a", "y"), ("a", "z"), ("b", "x"), ("b", "y"), ("b", "z"))
+OCTA = Web.of_ties(*[(a, b) for a, b in itertools.combinations("abcdef", 2) if (a, b) not in (("a", "b"), ("c", "d"),
+                                                                                            ("e", "f"))])
+CUBE = Web.of_ties(*[(a, b) for a, b in itertools.combinations("abcdefgh", 2)
+                     if bin("abcdefgh".index(a) ^ "abcdefgh".index(b)).count("1") == 1])
+PETERSEN = Web.of_ties(*[tuple(sorted(pair)) for k in range(5) for pair in (
+    ("abcde"[k], "abcde"[(k + 1) % 5]), ("abcde"[k], "fghij"[k]), ("fghij"[k], "fghij"[(k + 2) % 5]))])
 ONE = Web(("a",), ())
 TWO = Web(("a", "b"), (("a", "b"),))
 APART = Web(("a", "b", "c", "d"), (("a", "b"), ("c", "d")))
@@ -34,7 +42,7 @@ WRONG = [
     ("four", ("a", "b", "c", "d"), ()), ("two", None, None), ("two", (("a", "b"), 3), ()),
 ]
 # Of these, some are right in one place, and wrong in all others.
-OBJECTS = [FOUR, ONE, flat, flat.mirror, InvalidNumber(1)]
+OBJECTS = [FOUR, ONE, flat, flat.mirror, PartTree.of_web(GLUED), InvalidNumber(1)]
 
 
 class Case(unittest.TestCase):
@@ -135,6 +143,64 @@ def any_drawing(web):
         except WebError:
             pass
     return None
+
+
+def all_drawings(web):
+    """All drawings of a web, by trying all its tables."""
+    return [Drawing(web, table) for table in all_tables(web) if is_drawing(web, table)]
+
+
+def woven_webs(many, count, seed):
+    """Some blocks with many parts: webs are put in the place of ties, or beside them, again and again."""
+    chance = random.Random(seed)
+    webs = []
+    while len(webs) < count:
+        web = ring_web(TWELVE[:3])
+        while len(web) < many:
+            names = TWELVE[len(web):len(web) + chance.randint(1, min(3, many - len(web)))]
+            a, b = chance.choice(web.ties)
+            row = (a,) + names + (b,)
+            web = web + (full_web(tuple(sorted(row))) if chance.random() < .4 else Web.of_ties(*[
+                tuple(sorted(pair)) for pair in zip(row, row[1:])]))
+            if chance.random() < .4 and web.without_tie(a, b).is_block:
+                web = web.without_tie(a, b)
+        webs.append(web)
+    return webs
+
+
+def blocks_on(*numbers):
+    """All blocks on so many letters."""
+    return [web for many in numbers for web in webs_on(many) if slow_is_block(web)]
+
+
+def held_webs():
+    """Some held webs with a drawing."""
+    return [FOUR, WHEEL, PRISM, OCTA, CUBE]
+
+
+def bent(value):
+    """Values near a value: in it, something is exchanged, left out, told twice or told otherwise."""
+    if isinstance(value, dict):
+        for key in value:
+            yield {k: value[k] for k in value if k != key}
+            for other in bent(value[key]):
+                yield {k: other if k == key else value[k] for k in value}
+        yield {**value, "zz": 1}
+        yield list(value.items())
+    elif isinstance(value, tuple):
+        yield list(value)
+        yield value[::-1]
+        yield (value,)
+        for k, one in enumerate(value):
+            yield value[:k] + value[k + 1:]
+            yield value[:k] + (one,) + value[k:]
+            yield value[:k - 1] + (one, value[k - 1]) + value[k + 1:] if k else value + (None,)
+            for other in bent(one):
+                yield value[:k] + (other,) + value[k + 1:]
+    elif isinstance(value, int):
+        yield from (value + 1, value - 1, None, str(value), value == 1)
+    elif isinstance(value, str):
+        yield from (value + "z", "", None, value.upper(), "zz", chr(ord(value[0]) + 1), "a", "b")
 
 
 def subsets(row):

@@ -1,7 +1,7 @@
 """Tables of turns, and the drawings that they tell."""
 
 from flatwebs.base.rings import from_least
-from flatwebs.base.webs import Web, need_places, need_tied, need_web, pair_of
+from flatwebs.base.webs import Web, need_block, need_places, need_tied, need_web, pair_of
 from flatwebs.base.words import are_different, are_names, has_keys
 from flatwebs.errors import (
     InvalidDrawing, InvalidOperation, InvalidRim, InvalidTable, InvalidWeb, ParseError)
@@ -169,6 +169,20 @@ class Drawing:
 
     def __str__(self):
         return f"drawing of {len(self._web.places)} places, {len(self._web.ties)} ties, {len(self._rims)} rims"
+
+
+def need_drawings(*values):
+    """Refuses what is no drawing."""
+    for value in values:
+        if not isinstance(value, Drawing):
+            raise InvalidDrawing("no drawing")
+
+
+def need_block_drawn(*drawings):
+    """Refuses what is no drawing, then a drawing of a web that is no block."""
+    need_drawings(*drawings)
+    for drawing in drawings:
+        need_block(drawing.web)
 
 
 def steps_of(rim):

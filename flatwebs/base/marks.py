@@ -62,3 +62,9 @@ def lot_marks(near, within):
 def is_one_lot(near, within):
     """Whether the places within a mark, at least one, hang together."""
     return grown_mark(near, within, within & -within) == within
+
+
+def linked_lots(many, links):
+    """The lots of the indices below a number that are joined by links, ascending tuples."""
+    near = near_marks(list(range(many)), links)
+    return [tuple(bits_of(lot)) for lot in lot_marks(near, full_mark(many))]

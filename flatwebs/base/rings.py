@@ -1,7 +1,7 @@
 """Rings and routes of a web."""
 
 from flatwebs.base.marks import bits_of, full_mark, grown_mark, near_marks
-from flatwebs.base.webs import need_web, ties_along, ties_round
+from flatwebs.base.webs import Web, need_web, ties_along, ties_round
 from flatwebs.base.words import are_different
 from flatwebs.errors import InvalidRoute, TooMany
 
@@ -79,6 +79,32 @@ def joins(web, corners, pairs, routes):
         return False
     inner = [place for route in routes for place in route[1:-1]]
     return len(set(inner)) == len(inner) and not any([place in corners for place in inner])
+
+
+def is_one_ring(web):
+    """Whether the ties of a web are just those of one ring through all its places."""
+    return web.hangs and all([len(web.neighbours(place)) == 2 for place in web.places])
+
+
+def ring_of_ties(ties):
+    """The plain ring with these ties."""
+    web = Web.of_ties(*ties)
+    first = web.places[0]
+    return way_on(web, first, web.neighbours(first)[0], (first,))[:-1]
+
+
+def way_on(web, place, step, joints):
+    """The route from a joint over a neighbour, up to the next joint; all others have two neighbours."""
+    way = (place, step)
+    while way[-1] not in joints:
+        way = way + tuple([one for one in web.neighbours(way[-1]) if one != way[-2]])
+    return way
+
+
+def turned_to(row, first):
+    """The rotation of a tuple that begins with one of its members."""
+    at = row.index(first)
+    return row[at:] + row[:at]
 
 
 def from_least(row):

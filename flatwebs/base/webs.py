@@ -13,7 +13,7 @@ class Web:
     """Places and ties. It never changes."""
 
     def __init__(self, places, ties):
-        if not _are_places(places) or not _are_ties(places, ties):
+        if not is_web_of(places, ties):
             raise InvalidWeb("there is no web with these places and ties")
         self._places = places
         self._ties = ties
@@ -189,6 +189,13 @@ def need_web(web):
         raise InvalidWeb("no web")
 
 
+def need_hanging(web):
+    """Refuses what is no web, then a web that does not hang together."""
+    need_web(web)
+    if not web.hangs:
+        raise InvalidOperation("the web does not hang together")
+
+
 def need_block(web):
     """Refuses what is no web, then a web that is no block."""
     need_web(web)
@@ -217,6 +224,23 @@ def gathered_web(places, ties):
 def web_on(web, places):
     """The web of some places of a web, ascending, and of all ties between them."""
     return Web(places, tuple([tie for tie in web.ties if tie[0] in places and tie[1] in places]))
+
+
+def is_web_of(places, ties):
+    """Whether these can be the places and the ties of a web."""
+    return _are_places(places) and _are_ties(places, ties)
+
+
+def are_ties_of(web, value):
+    """Whether the value is an ascending tuple of ties of the web."""
+    return isinstance(value, tuple) and all([tie in web.ties for tie in value]) and is_ascending(value)
+
+
+def is_row_of(web, value, many):
+    """Whether the value is an ascending tuple of so many places of the web."""
+    if not are_names(value) or len(value) != many or not is_ascending(value):
+        return False
+    return all([place in web.places for place in value])
 
 
 def is_tie(value):

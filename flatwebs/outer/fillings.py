@@ -1,5 +1,6 @@
 """All ways to fill pieces of a ring with ties until each piece has three places."""
 
+from flatwebs.base.rings import turned_to
 from flatwebs.base.webs import pair_of
 
 
@@ -16,7 +17,7 @@ def each_filling(order, pieces):
         return
     place = order[0]
     later = order[1:]
-    own = [_turned(piece, place) for piece in pieces if place in piece]
+    own = [turned_to(piece, place) for piece in pieces if place in piece]
     across = tuple(sorted([one for row in own for one in row[2:-1]]))
     others = tuple([piece for piece in pieces if place not in piece])
     for chosen in _each_subset(across):
@@ -39,12 +40,6 @@ def _each_subset(names):
         yield first + chosen
     for chosen in _each_subset(rest):
         yield chosen
-
-
-def _turned(piece, place):
-    """A piece, told from one of its places on."""
-    at = piece.index(place)
-    return piece[at:] + piece[:at]
 
 
 def _left_pieces(row, chosen):

@@ -3,9 +3,9 @@
 from math import factorial
 
 from flatwebs.base.drawings import Drawing, steps_of
-from flatwebs.base.rings import from_least, is_plain, joins, plain_ring, ring_ties
+from flatwebs.base.rings import from_least, is_plain, joins, plain_ring, ring_ties, way_on
 from flatwebs.base.webs import (
-    MAX_PLACES, all_pairs, gathered_web, is_tie, need_block, need_web, pair_of, ties_round, web_on)
+    MAX_PLACES, all_pairs, gathered_web, is_row_of, is_tie, need_block, need_web, pair_of, ties_round, web_on)
 from flatwebs.base.words import are_different, has_keys, is_ascending, is_count
 from flatwebs.errors import InvalidColours, InvalidDrawing, InvalidOperation, InvalidRoute, InvalidTie
 from flatwebs.outer.choices import any_choice
@@ -60,11 +60,11 @@ def is_reason(web, value):
         return False
     kind, places, routes = value
     if kind == "four":
-        return _is_row(web, places, 4) and joins(web, places, all_pairs(places), routes)
+        return is_row_of(web, places, 4) and joins(web, places, all_pairs(places), routes)
     if kind != "two" or not isinstance(places, tuple) or len(places) != 2:
         return False
     pair, three = places
-    if not _is_row(web, pair, 2) or not _is_row(web, three, 3):
+    if not is_row_of(web, pair, 2) or not is_row_of(web, three, 3):
         return False
     pairs = [(a, b) for a in pair for b in three]
     return joins(web, pair + three, pairs, routes)
@@ -193,13 +193,6 @@ def _is_list(value):
     return all([is_count(number) for number in value]) and is_ascending(value)
 
 
-def _is_row(web, value, many):
-    """Whether the value is an ascending tuple of so many places of the web."""
-    if not are_different(value, many) or len(value) != many or not is_ascending(value):
-        return False
-    return all([place in web.places for place in value])
-
-
 def _full_ties(web):
     """The number of ties of a full outer block with as many places."""
     return 2 * len(web.places) - 3
@@ -237,15 +230,7 @@ def _ring_by_ears(web):
 
 def _reason_of_two(web, pair):
     """The reason of a web that is just three routes between two joints."""
-    ways = [_way_on(web, pair[0], step, pair) for step in web.neighbours(pair[0])]
+    ways = [way_on(web, pair[0], step, pair) for step in web.neighbours(pair[0])]
     three = tuple([way[1] for way in ways])
     routes = [way[:2] for way in ways] + [way[:0:-1] for way in ways]
     return ("two", (pair, three), tuple(routes))
-
-
-def _way_on(web, place, step, joints):
-    """The route from a joint over a neighbour, up to the next joint."""
-    way = (place, step)
-    while way[-1] not in joints:
-        way = way + tuple([one for one in web.neighbours(way[-1]) if one != way[-2]])
-    return way

@@ -2,7 +2,7 @@
 
 from flatwebs.base.marks import (
     bits_of, full_mark, is_one_lot, lot_marks, mark_of, marked, near_marks)
-from flatwebs.base.webs import all_pairs, need_block, need_places, need_tied, need_web, web_on
+from flatwebs.base.webs import all_pairs, need_block, need_places, need_tied, need_web, pair_of, web_on
 from flatwebs.base.words import are_names, is_ascending
 from flatwebs.errors import InvalidOperation, InvalidPart
 
@@ -84,12 +84,22 @@ def sides_at(web, a, b):
     need_block(web)
     need_places(web, a, b)
     near = near_marks(web.places, web.ties)
-    pair = mark_of(web.places, (a, b))
-    if not _parts(near, pair):
+    if not _parts(near, mark_of(web.places, (a, b))):
         raise InvalidOperation("the two places do not part the web")
-    lots = lot_marks(near, full_mark(len(near)) & ~pair)
+    return _sides_without(web, near, pair_of(a, b))
+
+
+def sides_by_pair(web):
+    """The dict from the pairs of places that part a block to their sides."""
+    near = near_marks(web.places, web.ties)
+    return {pair: _sides_without(web, near, pair) for pair in parting_pairs(web)}
+
+
+def _sides_without(web, near, pair):
+    """The ascending tuple of the sides of an ascending pair of places."""
+    lots = lot_marks(near, full_mark(len(near)) & ~mark_of(web.places, pair))
     sides = [marked(web.places, lot) for lot in lots]
-    return tuple([()] + sides) if web.is_tied(a, b) else tuple(sides)
+    return tuple([()] + sides) if pair in web.ties else tuple(sides)
 
 
 def _cuts_of(near, within):

@@ -1,0 +1,1 @@
+"""Drawings of a web, and why there are none."""

@@ -1,0 +1,1 @@
+"""Orders of the places of a web."""

@@ -1,0 +1,1 @@
+"""What the rims of a drawing tell."""

@@ -198,7 +198,7 @@ class Flips(Case):
         for drawing in self.drawings():
             flips = flips_of(drawing)
             self.assertEqual(flips, slow_flips(drawing))
-            for flip in flips[::1 + len(flips) // 12]:
+            for flip in flips[::1 + len(flips) // 6]:
                 self.is_bool(is_flip(drawing, flip), True)
                 behind = flipped(drawing, flip)
                 self.assertEqual(behind, slow_flipped(drawing, flip))

@@ -199,6 +199,8 @@ class Form(unittest.TestCase):
         for node, where in self.each(ast.Call):
             if isinstance(node.func, ast.Attribute):
                 self.assertIn(node.func.attr, METHODS | OWN, where)
+            stars = [one.value for one in node.args if isinstance(one, ast.Starred)]
+            self.assertTrue(all(isinstance(one, (ast.Name, ast.Attribute)) for one in stars), where)
             keywords = {one.arg for one in node.keywords}
             self.assertTrue(keywords <= {"key", "default", "reverse", "start"}, where)
 

@@ -46,6 +46,7 @@ class Drawing:
         self._web = web
         self._table = {place: table[place] for place in web.places}
         self._rims = rims
+        self._along = {step: rim for rim in rims for step in steps_of(rim)}
 
     @classmethod
     def from_lines(cls, *lines):
@@ -111,8 +112,7 @@ class Drawing:
     def rim_along(self, place, neighbour):
         """The rim on which one goes from a place to a neighbour."""
         need_tied(self._web, place, neighbour)
-        walked = (place, neighbour)
-        return [rim for rim in self._rims if walked in steps_of(rim)][0]
+        return self._along[(place, neighbour)]
 
     def rims_round(self, place):
         """For each neighbour in the round, the rim on which one comes from it to the place."""

@@ -29,7 +29,8 @@ def cover_by(drawing):
 def drawings_by(web, cover):
     """The tuple of the drawings whose cover this is, ascending by their lines."""
     _need_cover(web, cover)
-    one = Drawing.from_rims(*_directed(cover))
+    rims = _directed(cover)
+    one = Drawing.from_rims(*rims)
     other = one.mirror
     if one == other:
         return (one,)

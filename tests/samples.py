@@ -164,7 +164,7 @@ def woven_webs(many, count, seed):
                 tuple(sorted(pair)) for pair in zip(row, row[1:])]))
             if chance.random() < .4 and web.without_tie(a, b).is_block:
                 web = web.without_tie(a, b)
-        webs.append(web)
+        webs.append(web.renamed(dict(zip(web.places, chance.sample(web.places, many)))))
     return webs
 
 

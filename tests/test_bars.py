@@ -270,6 +270,15 @@ class MinorBars(Case):
         self.is_bool(is_minor_bar(every_full(7), ("three", (tuple(zip("bcd")), (("a", "g"), ("e",), ("f",))))), False)
         self.is_bool(is_minor_bar(every_full(7), ("three", ((("a", "g"), ("e",), ("f",)), tuple(zip("bcd"))))), True)
 
+    def test_lots_in_order(self):
+        # What lies within a route comes ahead of the place to whose lot it goes.
+        five = full_web(tuple("bcdef")).without_tie("c", "d") + Web.of_ties(("a", "c"), ("a", "d"))
+        three = HOUSES.renamed(dict(zip("abcdef", "bcdefg"))).without_tie("c", "e") + Web.of_ties(
+            ("a", "c"), ("a", "e"))
+        for web in (five, three):
+            self.assertTrue(slow_is_minor(web, minor_bar(web)))
+            self.is_bool(is_minor_bar(web, minor_bar(web)), True)
+
     def test_near_minor_bars(self):
         for web in (HOUSES, FIVE, ROUTED, PETERSEN, every_full(7)):
             for value in bent(minor_bar(web)):

@@ -202,6 +202,13 @@ class Trees(Case):
             ("held", ("a", "b") + TWELVE[7:], tuple(tie for tie in OTHER_SEVEN if tie != ("a", "b")))))
         self.assertEqual(PartTree.of_web(SEVENS).doors, ((("a", "b"), 0, 1),))
 
+    def test_parts_beside_in_another_order(self):
+        # The door with the less pair leads to the part with the greater index.
+        tree = PartTree.of_web(full_web(tuple("bcde")).without_tie("b", "c").without_tie("d", "e") + Web.of_ties(
+            ("b", "z"), ("c", "z"), ("a", "d"), ("a", "e")))
+        self.assertEqual(tree.doors, ((("b", "c"), 1, 2), (("d", "e"), 0, 1)))
+        self.assertEqual(tree.beside(1), (0, 2))
+
     def test_signs(self):
         tree = PartTree.of_web(KITE)
         same = PartTree(tree.parts, tree.doors)
@@ -209,6 +216,7 @@ class Trees(Case):
         self.is_bool(tree == same, True)
         self.is_bool(tree != same, False)
         self.is_bool(tree == other, False)
+        self.is_bool(PartTree.of_web(FOUR) == PartTree.of_web(ring_web(("a", "b", "c"))), False)
         for value in WRONG + OBJECTS + [tree.parts, (tree.parts, tree.doors)]:
             self.is_bool(tree == value, False)
             self.is_bool(tree != value, True)
@@ -290,6 +298,14 @@ class Rules(Case):
         circle = (("ring", tuple("abx"), pairs("ax")), ("held", tuple("abcd"), pairs("ac ad bc bd")),
                   ("held", tuple("bxcd"), pairs("bc cx dx")))
         self.refuses(InvalidPart, PartTree, circle, ((("a", "b"), 0, 1), (("b", "x"), 0, 2), (("c", "d"), 1, 2)))
+
+    def test_a_circle_of_doors(self):
+        # All is right but for the ways: each place of a door is in two parts only.
+        circle = (("held", tuple("abcd"), pairs("ac ad bc bd")), ("held", tuple("abef"), pairs("ae af be bf")),
+                  ("held", tuple("cdef"), pairs("ce cf de df")))
+        doors = ((("a", "b"), 0, 1), (("c", "d"), 0, 2), (("e", "f"), 1, 2))
+        self.wrong(circle, doors)
+        self.wrong(circle + (("held", tuple("ghij"), pairs("gh gi gj hi hj ij")),), doors)
 
     def test_doors_between_a_kind(self):
         self.wrong((("ring", ("a", "b", "c"), pairs("ac bc")), ("ring", ("a", "b", "d"), pairs("ad bd"))),

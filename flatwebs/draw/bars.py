@@ -54,8 +54,7 @@ def is_bar(web, value):
     left, right = places
     if not is_row_of(web, left, 3) or not is_row_of(web, right, 3) or not left < right:
         return False
-    if any([place in right for place in left]):
-        return False
+    # No route joins a place to itself, so no place is in both.
     pairs = [(a, b) for a in left for b in right]
     return joins(web, left + right, pairs, routes)
 
@@ -95,7 +94,8 @@ def is_keeping_paper(web, value):
     kept, bars = value
     flat = Web(web.places, kept)
     others = [tie for tie in web.ties if tie not in kept]
-    if not flat.hangs or not _is_flat(flat) or not has_keys(bars, others):
+    # Kept ties that do not join all places leave out one that would, and of which there is no bar.
+    if not _is_flat(flat) or not has_keys(bars, others):
         return False
     return all([is_bar(flat.with_tie(tie[0], tie[1]), bars[tie]) for tie in others])
 

@@ -136,12 +136,13 @@ def _is_tree(parts, doors):
 
 def _are_parts(value):
     """Whether the value can be the parts of a tree: all of them together make a web."""
-    if not isinstance(value, tuple) or not value or not all([_is_part(part) for part in value]):
+    if not isinstance(value, tuple) or not all([_is_part(part) for part in value]):
         return False
-    ties = [tie for part in value for tie in part[2]]
+    if not is_ascending([part[1] for part in value]):
+        return False
+    # No web has no places, or a tie twice.
     places = [place for part in value for place in part[1]]
-    if not is_ascending([part[1] for part in value]) or len(set(ties)) < len(ties):
-        return False
+    ties = [tie for part in value for tie in part[2]]
     return is_web_of(tuple(sorted(set(places))), tuple(sorted(ties)))
 
 

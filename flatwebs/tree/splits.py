@@ -19,7 +19,7 @@ def parts_of_block(web):
             parts.append(("bundle", pair, ties))
     parts = sorted(parts, key=lambda part: part[1])
     doors = [door for pair in pairs for door in _doors_at(parts, pair)]
-    return (tuple(parts), tuple(sorted(doors)))
+    return (tuple(parts), tuple(doors))
 
 
 def _door_cuts(web):

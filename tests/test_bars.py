@@ -224,6 +224,10 @@ class Papers(Case):
         self.is_bool(is_keeping_paper(TWO, ((), {("a", "b"): bar})), False)
         # Kept ties by which not all places hang together.
         self.is_bool(is_keeping_paper(TAILED, (keeping_paper(HOUSES)[0], {})), False)
+        for web in (TWO, KITE, BOW, HOUSES, TAILED, FIVE):
+            for kept in ((), web.ties[:1], web.ties[-2:]):
+                bars = {tie: bar_of(web) or bar for tie in web.ties if tie not in kept}
+                self.is_bool(is_keeping_paper(web, (kept, bars)), slow_is_paper(web, (kept, bars)))
         six = every_full(6)
         kept, bars = keeping_paper(six)
         self.is_bool(is_keeping_paper(six, (kept, {tie: bars[tie] for tie in reversed(list(bars))})), True)

@@ -94,8 +94,7 @@ def is_keeping_paper(web, value):
     kept, bars = value
     flat = Web(web.places, kept)
     others = [tie for tie in web.ties if tie not in kept]
-    # Kept ties that do not join all places leave out one that would, and of which there is no bar.
-    if not _is_flat(flat) or not has_keys(bars, others):
+    if not flat.hangs or not _is_flat(flat) or not has_keys(bars, others):
         return False
     return all([is_bar(flat.with_tie(tie[0], tie[1]), bars[tie]) for tie in others])
 

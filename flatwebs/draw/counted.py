@@ -26,9 +26,10 @@ def count_drawings(web):
 def drawing_at(web, index):
     """The drawing with a number."""
     tree = PartTree.of_web(web)
-    if not is_count(index) or index >= _product_of(_factors_in(tree)):
+    counts = _factors_in(tree)
+    if not is_count(index) or index >= _product_of(counts):
         raise InvalidNumber(index)
-    return _numbered(tree, _bases_in(tree), index)
+    return _numbered(tree, counts, _bases_in(tree), index)
 
 
 def number_of(drawing):
@@ -46,10 +47,11 @@ def number_of(drawing):
 def each_drawing(web):
     """All drawings, in the order of their numbers."""
     tree = PartTree.of_web(web)
-    many = _product_of(_factors_in(tree))
+    counts = _factors_in(tree)
+    many = _product_of(counts)
     bases = _bases_in(tree) if many else []
     for index in range(many):
-        yield _numbered(tree, bases, index)
+        yield _numbered(tree, counts, bases, index)
 
 
 def sides_round(drawing, a, b):
@@ -166,22 +168,14 @@ def _bases_in(tree):
     return [base_turns(tree, k) for k in range(len(tree))]
 
 
-def _numbered(tree, bases, index):
-    """The drawing with a number."""
+def _numbered(tree, counts, bases, index):
+    """The drawing with a number, told by the factors of the parts and by turns of each one."""
     turns = []
     rest = index
-    for k, base in enumerate(bases):
-        rest, number = divmod(rest, _turns_count(tree[k], base))
-        turns.append(numbered_turns(tree[k][0], base, number))
+    for k, count in enumerate(counts):
+        rest, number = divmod(rest, count)
+        turns.append(numbered_turns(tree[k][0], bases[k], number))
     return Drawing(tree.joined, table_of_turns(tree, turns))
-
-
-def _turns_count(part, base):
-    """The factor of a part that has a drawing."""
-    kind, places, _ = part
-    if kind == "bundle":
-        return factorial(len(base[places[0]]) - 1)
-    return 1 if kind == "ring" else 2
 
 
 def _behind_flip(drawing, flip):

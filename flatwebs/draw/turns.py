@@ -10,13 +10,11 @@ from flatwebs.draw.bars import drawing_of
 
 
 def base_turns(tree, k):
-    """Any turns of a part; a held part has a drawing."""
+    """Any turns of a part; the web of a part that is no bundle has a drawing."""
     labels = _labels_of(tree, k)
     kind, places, _ = tree[k]
     if kind == "bundle":
         return {places[0]: labels, places[1]: labels[::-1]}
-    if kind == "ring":
-        return {place: tuple([one for one in labels if place in _ends_of(tree, one)]) for place in places}
     by_pair = {_ends_of(tree, one): one for one in labels}
     table = drawing_of(tree.part_web(k)).table
     return {place: tuple([by_pair[pair_of(place, one)] for one in table[place]]) for place in table}
@@ -34,8 +32,6 @@ def numbered_turns(kind, base, number):
 def number_of_turns(tree, k, drawing):
     """The number of the turns that a part has in a drawing."""
     kind, places, _ = tree[k]
-    if kind == "ring":
-        return 0
     row = base_turns(tree, k)[places[0]]
     seen = turned_to(turn_seen(tree, k, drawing), row[0])
     if kind == "bundle":

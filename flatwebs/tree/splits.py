@@ -34,7 +34,7 @@ def _door_cuts(web):
         mark = mark_of(web.places, pair)
         cuts.append((mark, pair, lot_marks(near, full_mark(len(near)) & ~mark)))
     marks = [mark for mark, _, _ in cuts]
-    return [(pair, lots) for _, pair, lots in cuts if not any([_is_torn(mark, lots) for mark in marks])]
+    return [(pair, lots) for _, pair, lots in cuts if not any([_is_torn(other, lots) for other in marks])]
 
 
 def _is_torn(mark, lots):

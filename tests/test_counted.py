@@ -254,6 +254,16 @@ class Flips(Case):
             if drawings:
                 self.leads(drawings[0], drawings[0].mirror)
 
+    def test_ways_by_other_doors(self):
+        # A held part that is not reached through its first door, and one with doors to both sides.
+        first = full_web(tuple("abef")).without_tie("e", "f")
+        later = full_web(tuple("cdef")).without_tie("e", "f").without_tie("c", "d")
+        tail = Web.of_ties(("c", "z"), ("d", "z"))
+        great = full_web(tuple("cduv")).without_tie("c", "d")
+        for web in (first + later + tail, first + later + great, first + later + great.with_tie("c", "d")):
+            for one, other in itertools.product(each_drawing(web), repeat=2):
+                self.leads(one, other)
+
     def leads(self, one, other):
         way = way_between(one, other)
         self.assertIs(type(way), tuple)
@@ -346,6 +356,7 @@ class Wrong(Case):
         for value in ["d", *WRONG, *OBJECTS]:
             self.refuses(UnknownName, sides_round, house, value, "zz", word=value)
             self.refuses(UnknownName, sides_round, house, "a", value, word=value)
+            self.refuses(UnknownName, sides_round, house, value, value, word=value)
         for a, b in (("a", "a"), ("x", "y"), ("a", "x")):
             self.refuses(InvalidOperation, sides_round, house, a, b)
         self.refuses(InvalidOperation, sides_round, flat, "a", "b")

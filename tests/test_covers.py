@@ -12,6 +12,7 @@ from flatwebs.errors import InvalidCover, InvalidDrawing, InvalidOperation, Inva
 from flatwebs.rims.covers import (
     cover_by, cover_of, drawings_by, is_cover, is_double, lots_of_rings, places_beside, rounds_at, sides_of_ring,
     sum_of_rings)
+from flatwebs.rims.duals import ring_sides, within_ring
 from tests.samples import (
     APART, BOW, CUBE, FLAT_TABLE, FOUR, GLUED, HOUSES, KITE, OBJECTS, OCTA, ONE, PETERSEN, PRISM, THREE, TWELVE, TWO,
     WHEEL, WRONG, Case, bent, blocks_on, every_full, flat, held_webs, not_drawings, not_webs, slow_lots, woven_webs)
@@ -20,7 +21,8 @@ BLOCKS = [*blocks_on(3, 4, 5), *held_webs(), GLUED, KITE, THREE, THREE.with_tie(
           ring_web(TWELVE), *woven_webs(7, 10, 51), *woven_webs(10, 6, 52)]
 FLAT = [web for web in BLOCKS if has_drawing(web)]
 TRIANGLE = ring_web(("a", "b", "c"))
-NO_BLOCKS = [ONE, TWO, BOW, APART, Web(TWELVE, ())]
+# The last one has no drawing, either.
+NO_BLOCKS = [ONE, TWO, BOW, APART, Web(TWELVE, ()), HOUSES + Web.of_ties(("a", "x"))]
 
 
 def slow_held(rings):
@@ -237,6 +239,17 @@ class Sums(Case):
                 # Places that hang together without the ring are on one side.
                 for lot in slow_lots(rest, web.ties):
                     self.assertTrue(set(lot) <= set(beside[0]) or set(lot) <= set(beside[1]))
+
+    def test_sides_by_rims_and_by_lots(self):
+        for web in FLAT:
+            drawing = drawing_of(web)
+            cover = cover_by(drawing)
+            for ring in each_plain(web)[::1 + len(each_plain(web)) // 12]:
+                told = zip(sides_of_ring(web, cover, ring), places_beside(web, cover, ring))
+                by_lots = [([cover[k] for k in side], places) for side, places in told]
+                by_rims = [(sorted(plain_ring(rim) for rim in side), places)
+                           for side, places in zip(ring_sides(drawing, ring), within_ring(drawing, ring))]
+                self.assertEqual(sorted(by_lots), sorted(by_rims))
 
     def test_just_two_sums(self):
         for web in (KITE, FOUR, THREE, WHEEL, PRISM):

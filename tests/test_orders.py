@@ -166,6 +166,7 @@ class Wrong(Case):
                 for call in self.calls():
                     self.refuses(UnknownName, call, web, value, "zz", word=value)
                     self.refuses(UnknownName, call, web, "a", value, word=value)
+                    self.refuses(UnknownName, call, web, value, value, word=value)
                 each_order(web, value, value)
 
     def test_no_orders_at_all(self):

@@ -291,6 +291,7 @@ class Wrong(Case):
             self.refuses(UnknownName, rims_with, kite, "a", value, "zz", word=value)
             self.refuses(UnknownName, are_parting, kite, value, "zz", word=value)
             self.refuses(UnknownName, are_parting, kite, "a", value, word=value)
+            self.refuses(UnknownName, are_parting, kite, value, value, word=value)
         self.refuses(InvalidOperation, are_parting, kite, "a", "a")
 
     def test_wrong_drawings(self):

@@ -108,9 +108,10 @@ def minor_bar(web):
     # What lies within a route goes to the place at which it begins.
     if kind == "five":
         return ("five", tuple(sorted([_lot_at(place, routes) for place in places])))
+    # The left places have the least one of all, so their lots are the lesser ones, too.
     left = tuple(sorted([_lot_at(place, routes) for place in places[0]]))
     right = tuple([(place,) for place in places[1]])
-    return ("three", (left, right) if left < right else (right, left))
+    return ("three", (left, right))
 
 
 def is_minor_bar(web, value):

@@ -238,9 +238,8 @@ def _turn_toward(tree, k, entered, now, other):
     seen = turn_seen(tree, k, now)
     if seen == turned_to(turn_seen(tree, k, other), seen[0]):
         return None
-    places = tree[k][1]
-    doors = [pair for pair, i, j in tree.doors if k in (i, j)]
-    a, b = doors[0] if entered is None else tree.doors[entered][0]
-    inner = [place for place in places if place not in (a, b)][0]
+    # With the first part all that lies with it on one side of any door can be turned.
+    a, b = tree.doors[entered or 0][0]
+    inner = [place for place in tree[k][1] if place not in (a, b)][0]
     side = [found for found in sides_at(now.web, a, b) if inner in found][0]
     return ("turn", a, b, side)

@@ -77,6 +77,31 @@ def locals_of(node):
     return set(names + [name for one in ast.walk(node) if isinstance(one, FUNCTIONS) for name in parameters(one)])
 
 
+def aliases(function):
+    """For each name that is assigned another name in a function, all names that can mean the same value."""
+    alike = {}
+    for node in ast.walk(function):
+        if isinstance(node, ast.Assign) and isinstance(node.value, ast.Name):
+            for target in node.targets:
+                if isinstance(target, ast.Name):
+                    both = alike.get(target.id, {target.id}) | alike.get(node.value.id, {node.value.id})
+                    alike.update({name: both for name in both})
+    return alike
+
+
+def gone_over(node):
+    """The names that a loop goes over as they are, or by `enumerate`, `zip`, `reversed` and views."""
+    if isinstance(node, ast.Name):
+        return {node.id}
+    if isinstance(node, (ast.BoolOp, ast.IfExp)):
+        return {name for one in ast.iter_child_nodes(node) for name in gone_over(one)}
+    if isinstance(node, ast.Call) and getattr(node.func, "id", "") in ("enumerate", "zip", "reversed"):
+        return {name for one in node.args for name in gone_over(one)}
+    if isinstance(node, ast.Call) and getattr(node.func, "attr", "") in ("items", "keys", "values"):
+        return gone_over(node.func.value)
+    return set()
+
+
 PAGES = [Page(path) for path in FILES]
 OWN = {node.name for page in PAGES for node in page.functions}
 GENERATORS = {node.name for page in PAGES for node in page.functions
@@ -274,6 +299,22 @@ class Form(unittest.TestCase):
                     self.assertIn(getattr(one.func.value, "id", ""), made, node.name)
             if isinstance(one, ast.Call) and isinstance(one.func, ast.Name):
                 self.assertNotIn(one.func.id, locals_of(node) - {"cls"}, node.name)
+
+    def test_loops_leave_what_they_go_over(self):
+        # L23: also where what a loop goes over gets another name, before the loop or behind it.
+        changing = ("append", "extend", "insert", "pop", "remove", "setdefault", "update", "clear", "reverse", "sort")
+        for page in PAGES:
+            for function in page.functions:
+                alike = aliases(function)
+                for loop in [one for one in ast.walk(function) if isinstance(one, ast.For)]:
+                    over = {name for one in gone_over(loop.iter) for name in alike.get(one, {one})}
+                    for one in [each for row in loop.body for each in ast.walk(row)]:
+                        changed = None
+                        if isinstance(one, ast.Call) and getattr(one.func, "attr", "") in changing:
+                            changed = one.func.value
+                        if isinstance(one, ast.Subscript) and not isinstance(one.ctx, ast.Load):
+                            changed = one.value
+                        self.assertNotIn(getattr(changed, "id", None), over, (page.path, loop.lineno))
 
     def test_double_underscore_methods(self):
         for node, where in self.each(ast.FunctionDef):

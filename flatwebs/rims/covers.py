@@ -135,7 +135,7 @@ def _directed(cover):
     while rest:
         steps = [step for ring in walked for step in steps_of(ring)]
         later = []
-        for ring in rest:
+        for ring in list(rest):
             if _meets(steps, ring):
                 walked.append(ring[::-1])
             elif _meets(steps, ring[::-1]):

@@ -33,6 +33,13 @@ TWELVE = tuple("abcdefghijkl")
 FLAT_TABLE = {"a": ("b", "d", "c"), "b": ("a", "c", "d"), "c": ("a", "d", "b"), "d": ("a", "b", "c")}
 flat = Drawing(FOUR, FLAT_TABLE)
 
+SIX = Drawing.from_rims(("a", "b", "c"), ("a", "c", "e"), ("a", "d", "b"), ("a", "e", "d"), ("b", "d", "f"),
+                        ("b", "f", "c"), ("c", "f", "e"), ("d", "e", "f"))
+# Twelve places with five ties each.
+TWENTY = Drawing.from_rims(*[rim for k in range(5) for rim in (
+    ("a", "bcdef"[k], "bcdef"[k - 1]), ("bcdef"[k - 1], "bcdef"[k], "ghijk"[k]),
+    ("ghijk"[k - 1], "bcdef"[k - 1], "ghijk"[k]), ("l", "ghijk"[k - 1], "ghijk"[k]))])
+
 # Nothing in here is a name, a web, a table, a drawing, a ring, a route, or a dict of lists.
 WRONG = [
     None, True, False, 0, 1, -7, 3, 10 ** 60, -10 ** 99, "", "A", "ab1", "a b", " a", "a\n", "abcdefghi", "x" * 4000,
@@ -176,6 +183,23 @@ def blocks_on(*numbers):
 def held_webs():
     """Some held webs with a drawing."""
     return [FOUR, WHEEL, PRISM, OCTA, CUBE]
+
+
+def triangulated(many, seed):
+    """A triangulated drawing with so many places: places are put into rims, and ties exchanged, by chance."""
+    chance = random.Random(seed)
+    drawing = Drawing.from_rims(("a", "b", "c"), ("a", "c", "b"))
+    for name in TWELVE[3:many]:
+        rim = chance.choice(drawing.rims)
+        rims = [one for one in drawing.rims if one != rim]
+        drawing = Drawing.from_rims(*rims, *[(rim[k - 1], rim[k], name) for k in range(3)])
+        for _ in range(chance.choice((0, 3, 9))):
+            a, b = chance.choice(drawing.web.ties)
+            c, d = drawing.behind(a, b), drawing.behind(b, a)
+            if c != d and not drawing.web.is_tied(c, d):
+                less = drawing.without_tie(a, b)
+                drawing = less.tied_within(c, d, [one for one in less.rims if len(one) == 4][0])
+    return drawing
 
 
 def bent(value):

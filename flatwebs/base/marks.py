@@ -64,6 +64,29 @@ def is_one_lot(near, within):
     return grown_mark(near, within, within & -within) == within
 
 
+def shortest_way(near, start, within, goals):
+    """A shortest way from a place, by places within a mark, to one of the goals among them."""
+    ways = [(start,)]
+    rest = within
+    while ways:
+        longer = []
+        for way in ways:
+            if goals >> way[-1] & 1:
+                return way
+            steps = near[way[-1]] & rest
+            rest = rest & ~steps
+            longer = longer + [way + (step,) for step in bits_of(steps)]
+        ways = longer
+    return ()
+
+
+def draw_along(drawn, way):
+    """Notes in the marks of the drawn ties that those along a way are drawn."""
+    for i, j in zip(way, way[1:]):
+        drawn[i] = drawn[i] | (1 << j)
+        drawn[j] = drawn[j] | (1 << i)
+
+
 def linked_lots(many, links):
     """The lots of the indices below a number that are joined by links, ascending tuples."""
     near = near_marks(list(range(many)), links)

@@ -6,7 +6,7 @@ a route through it is drawn within one of them. If some piece has no such rim, t
 drawing at all; else the choice does not matter.
 """
 
-from flatwebs.base.marks import bits_of, full_mark, lot_marks, near_marks
+from flatwebs.base.marks import bits_of, draw_along, full_mark, lot_marks, near_marks, shortest_way
 from flatwebs.base.rings import turned_to
 
 
@@ -18,7 +18,7 @@ def grown_rims(web):
     ring = _first_ring(near)
     rims = [ring, ring[::-1]]
     drawn = [0 for _ in near]
-    _draw_along(drawn, ring + ring[:1])
+    draw_along(drawn, ring + ring[:1])
     while drawn != near:
         piece, fits = _next_piece(near, drawn, rims)
         if not fits:
@@ -26,7 +26,7 @@ def grown_rims(web):
         way = _way_through(near, piece)
         rim = rims.pop(fits[0])
         rims = rims + _split_rim(rim, way)
-        _draw_along(drawn, way)
+        draw_along(drawn, way)
     return [tuple([web.places[k] for k in rim]) for rim in rims]
 
 
@@ -34,30 +34,7 @@ def _first_ring(near):
     """A shortest ring through the first place and its first neighbour."""
     step = near[0] & -near[0]
     rest = full_mark(len(near)) & ~step & ~1
-    return (0,) + _shortest(near, bits_of(step)[0], rest, near[0] & ~step)
-
-
-def _shortest(near, start, within, goals):
-    """A shortest way from a place, by places within a mark, to one of the goals among them."""
-    ways = [(start,)]
-    rest = within
-    while ways:
-        longer = []
-        for way in ways:
-            if goals >> way[-1] & 1:
-                return way
-            steps = near[way[-1]] & rest
-            rest = rest & ~steps
-            longer = longer + [way + (step,) for step in bits_of(steps)]
-        ways = longer
-    return ()
-
-
-def _draw_along(drawn, way):
-    """Notes in the marks of the drawn ties that those along a way are drawn."""
-    for i, j in zip(way, way[1:]):
-        drawn[i] = drawn[i] | (1 << j)
-        drawn[j] = drawn[j] | (1 << i)
+    return (0,) + shortest_way(near, bits_of(step)[0], rest, near[0] & ~step)
 
 
 def _next_piece(near, drawn, rims):
@@ -99,7 +76,7 @@ def _way_through(near, piece):
     if not lot:
         return (start,) + tuple(bits_of(goals))
     first = bits_of(near[start] & lot)[0]
-    return (start,) + _shortest(near, first, lot | goals, goals)
+    return (start,) + shortest_way(near, first, lot | goals, goals)
 
 
 def _split_rim(rim, way):

@@ -53,6 +53,14 @@ def count_orders(web, a, b):
     return _counts_from(web, a, b)[1 << web.places.index(a)]
 
 
+def is_tied_order(web, value):
+    """Whether the value is an order of the web from a place to a tied one."""
+    if not are_different(value, 3) or not all([place in web.places for place in value]):
+        return False
+    a, b = value[0], value[-1]
+    return web.is_tied(a, b) and is_order(web, a, b, value)
+
+
 def _need_ends(web, a, b):
     """Refuses what is no web, what are no places of it, and then places without orders at all."""
     need_web(web)

@@ -1,0 +1,1 @@
+"""Drawings on a grid, and drawings by springs."""

@@ -265,7 +265,7 @@ class Form(unittest.TestCase):
     def test_operators_change_nothing(self):
         # L5: what an operator or a property calls changes only lists and dicts that it made itself.
         starts = [node for page in PAGES for node in page.functions
-                  if node.name in DOUBLE - {"__init__"} or [one for one in node.decorator_list if one.id == "property"]]
+                  if node.name in DOUBLE - {"__init__", "__enter__", "__exit__"} or [one for one in node.decorator_list if one.id == "property"]]
         reached = {}
         while starts:
             node = starts.pop()
@@ -322,6 +322,13 @@ class Form(unittest.TestCase):
                 self.assertIn(node.name, DOUBLE, where)
             if node.name in ("__eq__", "__str__", "__len__", "__iter__"):
                 self.assertEqual([type(one) for one in node.body], [ast.Return], where)
+            if node.name == "__exit__":
+                # L6: attributes are set to attributes, and what is told of an error is not read.
+                for row in node.body:
+                    self.assertIsInstance(row, ast.Assign, where)
+                    self.assertEqual({type(one) for one in [*row.targets, row.value]}, {ast.Attribute}, where)
+                reads = {one.id for one in ast.walk(node) if isinstance(one, ast.Name)}
+                self.assertEqual(reads, {"self"}, where)
 
 
 if __name__ == "__main__":

@@ -376,6 +376,14 @@ class Choices(Case):
                 lists = {place: tuple(sorted(chance.sample(range(5), 3))) for place in web.places}
                 self.is_bool(is_outer_choice(web, lists, outer_choice(web, lists)), True)
 
+    def test_order_of_lists(self):
+        # Lists are the same in whatever order they are told, so the choice is the same, too.
+        chance = random.Random(6)
+        for web in [web for web in SAMPLES if len(web) <= 6]:
+            lists = {place: tuple(sorted(chance.sample(range(4), 3))) for place in web.places}
+            for names in (web.places[::-1], chance.sample(web.places, len(web))):
+                self.assertEqual(outer_choice(web, {place: lists[place] for place in names}), outer_choice(web, lists))
+
     def test_no_choice_of_many(self):
         # Nine places all tied, and only eight numbers.
         web = every_full(9)

@@ -71,6 +71,11 @@ def fraction(top, bottom):
         raise InvalidNumber(top)
     if not is_integer(bottom) or bottom == 0:
         raise InvalidNumber(bottom)
+    return lowest(top, bottom)
+
+
+def lowest(top, bottom):
+    """The fraction with the value of top / bottom, which are of any length, the bottom not 0."""
     divisor = gcd(top, bottom)
     if bottom < 0:
         divisor = -divisor

@@ -2,6 +2,12 @@
 
 
 def any_choice(web, lists):
+    """Any choice of lists of all places, with ascending keys; None if there is none."""
+    chosen = _choice_of(web, {place: lists[place] for place in web.places})
+    return None if chosen is None else {place: chosen[place] for place in web.places}
+
+
+def _choice_of(web, lists):
     """Any choice of these lists for the places that they have, None if there is none."""
     if not lists:
         return {}
@@ -14,7 +20,7 @@ def any_choice(web, lists):
 
 def _choice_later(web, lists, place, near):
     """A choice in which a place with more numbers than neighbours is left for the end."""
-    chosen = any_choice(web, {one: lists[one] for one in lists if one != place})
+    chosen = _choice_of(web, {one: lists[one] for one in lists if one != place})
     if chosen is None:
         return None
     taken = [chosen[one] for one in near]
@@ -29,7 +35,7 @@ def _choice_first(web, lists):
     for number in lists[place]:
         rest = {one: _without(lists[one], number) if one in near else lists[one]
                 for one in lists if one != place}
-        chosen = any_choice(web, rest)
+        chosen = _choice_of(web, rest)
         if chosen is not None:
             return {**chosen, place: number}
     return None

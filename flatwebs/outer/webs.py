@@ -169,8 +169,7 @@ def is_outer_choice(web, lists, value):
 def outer_choice(web, lists):
     """Any numbers of these lists, unlike for neighbours; None if there are none."""
     _need_lists(web, lists)
-    chosen = any_choice(web, lists)
-    return None if chosen is None else {place: chosen[place] for place in web.places}
+    return any_choice(web, lists)
 
 
 def _need_plain(ring):

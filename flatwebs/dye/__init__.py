@@ -1,0 +1,1 @@
+"""Colours of rims, places and ties."""

@@ -213,24 +213,19 @@ def _walked_rims(table):
     onward = {}
     for place in table:
         for before, behind in steps_of(table[place]):
-            onward[(before, place)] = (place, behind)
+            onward[(before, place)] = behind
     done = {}
     rims = []
     for start in onward:
         if start not in done:
-            walk = _walk_from(start, onward)
-            for step in walk:
-                done[step] = True
-            rims.append(from_least(tuple([a for a, _ in walk])))
+            rim = ()
+            a, b = start
+            while (a, b) not in done:
+                done[(a, b)] = True
+                rim = rim + (a,)
+                a, b = b, onward[(a, b)]
+            rims.append(from_least(rim))
     return tuple(sorted(rims)) if rims else ((),)
-
-
-def _walk_from(start, onward):
-    """The directed ties that are walked from one of them on, until it would come again."""
-    walk = [start]
-    while onward[walk[-1]] != start:
-        walk.append(onward[walk[-1]])
-    return walk
 
 
 def _with_turn(near, before, place):

@@ -7,10 +7,10 @@ numbers answer them faster than new webs.
 
 def near_marks(places, ties):
     """The marks of the neighbours of each place, in the order of the places."""
+    at = {place: k for k, place in enumerate(places)}
     near = [0 for _ in places]
     for a, b in ties:
-        i = places.index(a)
-        j = places.index(b)
+        i, j = at[a], at[b]
         near[i] = near[i] | (1 << j)
         near[j] = near[j] | (1 << i)
     return near
@@ -59,15 +59,27 @@ def lot_marks(near, within):
     return lots
 
 
+def are_joined(near, within, some):
+    """Whether some of the places within a mark, at least one, hang together by places within it."""
+    found = some & -some
+    fresh = found
+    while some & ~found and fresh:
+        low = fresh & -fresh
+        more = near[low.bit_length() - 1] & within & ~found
+        found = found | more
+        fresh = (fresh ^ low) | more
+    return not some & ~found
+
+
 def is_one_lot(near, within):
     """Whether the places within a mark, at least one, hang together."""
-    return grown_mark(near, within, within & -within) == within
+    return are_joined(near, within, within)
 
 
-def shortest_way(near, start, within, goals):
-    """A shortest way from a place, by places within a mark, to one of the goals among them."""
-    ways = [(start,)]
-    rest = within
+def shortest_way(near, starts, within, goals):
+    """A shortest way from one of the places of a mark, by places within a mark, to one of the goals; or ()."""
+    ways = [(k,) for k in bits_of(starts)]
+    rest = within & ~starts
     while ways:
         longer = []
         for way in ways:
@@ -78,13 +90,6 @@ def shortest_way(near, start, within, goals):
             longer = longer + [way + (step,) for step in bits_of(steps)]
         ways = longer
     return ()
-
-
-def draw_along(drawn, way):
-    """Notes in the marks of the drawn ties that those along a way are drawn."""
-    for i, j in zip(way, way[1:]):
-        drawn[i] = drawn[i] | (1 << j)
-        drawn[j] = drawn[j] | (1 << i)
 
 
 def linked_lots(many, links):

@@ -109,6 +109,9 @@ def turned_to(row, first):
 
 def from_least(row):
     """The least one of the rotations of a tuple."""
+    least = min(row, default=None)
+    if row.count(least) == 1:
+        return turned_to(row, least)
     return min([row[k:] + row[:k] for k in range(len(row))], default=())
 
 

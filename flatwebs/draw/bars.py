@@ -1,44 +1,38 @@
 """Drawing or bar: a web that hangs together has one of both."""
 
 from flatwebs.base.drawings import Drawing
-from flatwebs.base.rings import from_least, joins, route_ties, way_on
+from flatwebs.base.marks import near_marks
+from flatwebs.base.rings import from_least, joins
 from flatwebs.base.webs import (
-    Web, all_pairs, are_ties_of, is_row_of, need_hanging, pair_of, web_on)
+    Web, all_pairs, are_ties_of, is_row_of, need_hanging, pair_of, ties_along, web_on)
 from flatwebs.base.words import are_names, has_keys, is_ascending
-from flatwebs.draw.growth import grown_rims
+from flatwebs.draw.flatness import bar_ways, flat_rounds, is_flat
 from flatwebs.errors import InvalidBar
-from flatwebs.tree.partings import all_blocks
 
 
 def drawing_of(web):
     """Any drawing of the web, None if there is none."""
     need_hanging(web)
-    table = {place: () for place in web.places}
-    for block in all_blocks(web):
-        part = web_on(web, block)
-        if len(block) < 3:
-            rounds = {place: part.neighbours(place) for place in block}
-        else:
-            rims = grown_rims(part)
-            if rims is None:
-                return None
-            rounds = Drawing.from_rims(*rims).table
-        # At a cut place the rounds of the blocks follow one another.
-        for place in block:
-            table[place] = table[place] + rounds[place]
-    return Drawing(web, {place: from_least(table[place]) for place in table})
+    rounds = flat_rounds(near_marks(web.places, web.ties))
+    if rounds is None:
+        return None
+    table = {}
+    for place, near in zip(web.places, rounds):
+        table[place] = from_least(tuple([web.places[k] for k in near]))
+    return Drawing(web, table)
 
 
 def has_drawing(web):
     """Whether the web has a drawing."""
     need_hanging(web)
-    return _is_flat(web)
+    return is_flat(near_marks(web.places, web.ties))
 
 
 def bar_of(web):
     """Any bar, None if there is none."""
     need_hanging(web)
-    return None if _is_flat(web) else _found_bar(web)
+    near = near_marks(web.places, web.ties)
+    return None if is_flat(near) else _found_bar(web.places, near)
 
 
 def is_bar(web, value):
@@ -63,13 +57,13 @@ def bar_ties(web, bar):
     """The ascending tuple of the ties on the routes of a bar."""
     if not is_bar(web, bar):
         raise InvalidBar("no bar of the web")
-    return tuple(sorted([tie for route in bar[2] for tie in route_ties(route)]))
+    return _ties_of(bar)
 
 
 def is_tight(web):
     """Whether the web has no drawing, but each lot of it without any one of its ties has one."""
     bar = bar_of(web)
-    return bar is not None and bar_ties(web, bar) == web.ties
+    return bar is not None and _ties_of(bar) == web.ties
 
 
 def keeping_paper(web):
@@ -78,11 +72,11 @@ def keeping_paper(web):
     kept = ()
     bars = {}
     for tie in web.ties:
-        more = Web(web.places, kept + (tie,))
-        if _is_flat(more):
-            kept = more.ties
+        near = near_marks(web.places, kept + (tie,))
+        if is_flat(near):
+            kept = kept + (tie,)
         else:
-            bars[tie] = _found_bar(more)
+            bars[tie] = _found_bar(web.places, near)
     return (kept, bars)
 
 
@@ -94,7 +88,7 @@ def is_keeping_paper(web, value):
     kept, bars = value
     flat = Web(web.places, kept)
     others = [tie for tie in web.ties if tie not in kept]
-    if not flat.hangs or not _is_flat(flat) or not has_keys(bars, others):
+    if not flat.hangs or not has_drawing(flat) or not has_keys(bars, others):
         return False
     return all([is_bar(flat.with_tie(tie[0], tie[1]), bars[tie]) for tie in others])
 
@@ -135,35 +129,22 @@ def _are_two(value):
     return isinstance(value, tuple) and len(value) == 2
 
 
-def _is_flat(web):
-    """Whether each lot of a web has a drawing."""
-    blocks = [block for block in all_blocks(web) if len(block) > 4]
-    return all([grown_rims(web_on(web, block)) is not None for block in blocks])
+def _ties_of(bar):
+    """The ascending tuple of the ties on the routes of a bar."""
+    return tuple(sorted([tie for route in bar[2] for tie in ties_along(route)]))
 
 
-def _found_bar(web):
-    """A bar of a web that has no drawing, which may fall apart."""
-    bare = web
-    for place in web.places:
-        fewer = bare.without_places((place,))
-        if not _is_flat(fewer):
-            bare = fewer
-    for a, b in bare.ties:
-        fewer = bare.without_tie(a, b)
-        if not _is_flat(fewer):
-            bare = fewer
-    # What is left has no tie too many, so it is just the routes of a bar.
-    joints = tuple([place for place in bare.places if len(bare.neighbours(place)) > 2])
-    ways = {}
-    for place in joints:
-        for step in bare.neighbours(place):
-            way = way_on(bare, place, step, joints)
-            ways[(place, way[-1])] = way
+def _found_bar(places, near):
+    """A bar of a web without a drawing, which may fall apart, told by the marks of neighbours."""
+    ways = bar_ways(near)
+    joints = sorted(set([way[0] for way in ways]))
+    named = {(way[0], way[-1]): tuple([places[k] for k in way]) for way in ways}
     if len(joints) == 5:
-        return ("five", joints, tuple([ways[pair] for pair in all_pairs(joints)]))
-    right = tuple([place for place in joints if (joints[0], place) in ways])
-    left = tuple([place for place in joints if place not in right])
-    return ("three", (left, right), tuple([ways[(a, b)] for a in left for b in right]))
+        return ("five", tuple([places[k] for k in joints]), tuple([named[pair] for pair in all_pairs(joints)]))
+    right = [k for k in joints if (joints[0], k) in named]
+    left = [k for k in joints if k not in right]
+    triples = tuple([tuple([places[k] for k in three]) for three in (left, right)])
+    return ("three", triples, tuple([named[(a, b)] for a in left for b in right]))
 
 
 def _lot_at(place, routes):

@@ -1,21 +1,21 @@
 """All drawings of a block, numbered, and the flips that lead from one to another one."""
 
-from math import factorial
-
 from flatwebs.base.drawings import Drawing, need_block_drawn
 from flatwebs.base.rings import from_least, turned_to
+from flatwebs.base.webs import need_block
 from flatwebs.base.words import is_count
-from flatwebs.draw.bars import has_drawing
 from flatwebs.draw.turns import (
-    base_turns, number_of_turns, numbered_turns, parts_outward, table_of_turns, turn_seen)
+    base_turns, has_turns, most_turns, number_of_turns, numbered_turns, parts_outward, table_of_turns, turn_seen)
 from flatwebs.errors import InvalidFlip, InvalidNumber, InvalidOperation
 from flatwebs.tree.partings import is_held, sides_at, sides_by_pair
-from flatwebs.tree.parts import PartTree
+from flatwebs.tree.splits import Split
 
 
 def factors(web):
     """The tuple of the factors of the parts, in the order of the tree."""
-    return _factors_in(PartTree.of_web(web))
+    need_block(web)
+    split = Split(web)
+    return tuple([most_turns(split, k) if has_turns(split, k) else 0 for k in range(len(split.told[0]))])
 
 
 def count_drawings(web):
@@ -25,33 +25,33 @@ def count_drawings(web):
 
 def drawing_at(web, index):
     """The drawing with a number."""
-    tree = PartTree.of_web(web)
-    counts = _factors_in(tree)
+    need_block(web)
+    split = Split(web)
+    bases, counts = _turns_in(split)
     if not is_count(index) or index >= _product_of(counts):
         raise InvalidNumber(index)
-    return _numbered(tree, counts, _bases_in(tree), index)
+    return _numbered(split, bases, counts, index)
 
 
 def number_of(drawing):
     """The number of a drawing."""
     need_block_drawn(drawing)
-    tree = PartTree.of_web(drawing.web)
+    split = Split(drawing.web)
     number = 0
     weight = 1
-    for k, factor in enumerate(_factors_in(tree)):
-        number = number + weight * number_of_turns(tree, k, drawing)
-        weight = weight * factor
+    for k in range(len(split.told[0])):
+        number = number + weight * number_of_turns(split, k, drawing)
+        weight = weight * most_turns(split, k)
     return number
 
 
 def each_drawing(web):
     """All drawings, in the order of their numbers."""
-    tree = PartTree.of_web(web)
-    counts = _factors_in(tree)
-    many = _product_of(counts)
-    bases = _bases_in(tree) if many else []
-    for index in range(many):
-        yield _numbered(tree, counts, bases, index)
+    need_block(web)
+    split = Split(web)
+    bases, counts = _turns_in(split)
+    for index in range(_product_of(counts)):
+        yield _numbered(split, bases, counts, index)
 
 
 def sides_round(drawing, a, b):
@@ -103,16 +103,16 @@ def way_between(one, other):
     _need_equal_webs(one, other)
     if is_held(one.web):
         return () if one == other else (("mirror",),)
-    tree = PartTree.of_web(one.web)
+    split = Split(one.web)
     way = []
     now = one
     # What is done at a part changes no part ahead of it.
-    for k, entered in parts_outward(tree):
-        flip = _flip_toward(tree, k, entered, now, other)
+    for k, entered in parts_outward(split, 0):
+        flip = _flip_toward(split, k, entered, now, other)
         while flip is not None:
             way.append(flip)
             now = _behind_flip(now, flip)
-            flip = _flip_toward(tree, k, entered, now, other)
+            flip = _flip_toward(split, k, entered, now, other)
     return tuple(way)
 
 
@@ -140,21 +140,6 @@ def _ordered_sides(drawing, a, b, sides):
     return from_least(tuple(row))
 
 
-def _factors_in(tree):
-    """The tuple of the factors of the parts of a tree."""
-    return tuple([_factor_of(tree, k) for k in range(len(tree))])
-
-
-def _factor_of(tree, k):
-    """The factor of a part."""
-    kind = tree[k][0]
-    if kind == "ring":
-        return 1
-    if kind == "bundle":
-        return factorial(len(tree.sides(k)) - 1)
-    return 2 if has_drawing(tree.part_web(k)) else 0
-
-
 def _product_of(numbers):
     """The product of some numbers."""
     many = 1
@@ -163,19 +148,20 @@ def _product_of(numbers):
     return many
 
 
-def _bases_in(tree):
-    """The turns of each part from which its other ones are told; each held part has a drawing."""
-    return [base_turns(tree, k) for k in range(len(tree))]
+def _turns_in(split):
+    """The turns of each part from which its other ones are told, None if it has none; and their numbers."""
+    bases = [base_turns(split, k) for k in range(len(split.told[0]))]
+    return (bases, [0 if base is None else most_turns(split, k) for k, base in enumerate(bases)])
 
 
-def _numbered(tree, counts, bases, index):
-    """The drawing with a number, told by the factors of the parts and by turns of each one."""
+def _numbered(split, bases, counts, index):
+    """The drawing with a number, told by turns of each part, and by how many it has."""
     turns = []
     rest = index
-    for k, count in enumerate(counts):
+    for part, count, base in zip(split.told[0], counts, bases):
         rest, number = divmod(rest, count)
-        turns.append(numbered_turns(tree[k][0], bases[k], number))
-    return Drawing(tree.joined, table_of_turns(tree, turns))
+        turns.append(numbered_turns(part[0], base, number))
+    return Drawing(split.block, table_of_turns(split, turns))
 
 
 def _behind_flip(drawing, flip):
@@ -218,9 +204,9 @@ def _from_run(near, some):
     return near[at:] + near[:at]
 
 
-def _flip_toward(tree, k, entered, now, other):
+def _flip_toward(split, k, entered, now, other):
     """A flip by which a part comes nearer to what it is in another drawing, None if it is that."""
-    kind, places, _ = tree[k]
+    kind, places, _ = split.told[0][k]
     if kind == "bundle":
         a, b = places
         row = sides_round(now, a, b)
@@ -230,16 +216,17 @@ def _flip_toward(tree, k, entered, now, other):
             return None
         at = row.index(goal[row.index(wrong[0])])
         return ("change", a, b, row[at - 1], row[at])
-    return None if kind == "ring" else _turn_toward(tree, k, entered, now, other)
+    return None if kind == "ring" else _turn_toward(split, k, entered, now, other)
 
 
-def _turn_toward(tree, k, entered, now, other):
+def _turn_toward(split, k, entered, now, other):
     """The flip that turns a held part and what lies behind it, None if it is turned already."""
-    seen = turn_seen(tree, k, now)
-    if seen == turned_to(turn_seen(tree, k, other), seen[0]):
+    seen = turn_seen(split, k, now)
+    if seen == turned_to(turn_seen(split, k, other), seen[0]):
         return None
+    parts, doors = split.told
     # With the first part all that lies with it on one side of any door can be turned.
-    a, b = tree.doors[entered or 0][0]
-    inner = [place for place in tree[k][1] if place not in (a, b)][0]
+    a, b = doors[entered or 0][0]
+    inner = [place for place in parts[k][1] if place not in (a, b)][0]
     side = [found for found in sides_at(now.web, a, b) if inner in found][0]
     return ("turn", a, b, side)

@@ -1,7 +1,7 @@
 """Ears: a ring, and routes that are put on one after the other until the web is there."""
 
 from flatwebs.base.drawings import steps_of
-from flatwebs.base.marks import bits_of, draw_along, full_mark, near_marks, shortest_way
+from flatwebs.base.marks import bits_of, full_mark, near_marks, shortest_way
 from flatwebs.base.rings import is_plain, is_ring, is_route, plain_ring, turned_to
 from flatwebs.base.webs import Web, is_web_of, need_tied, need_web, ties_along, ties_round
 from flatwebs.base.words import are_different
@@ -108,20 +108,27 @@ def _grown_ears(web, tie):
     near = near_marks(web.places, web.ties)
     whole = full_mark(len(near))
     i, j = web.places.index(tie[0]), web.places.index(tie[1])
-    ring = (i,) + shortest_way(near, j, whole & ~(1 << i), near[i] & ~(1 << j))
+    ring = (i,) + shortest_way(near, 1 << j, whole & ~(1 << i), near[i] & ~(1 << j))
     drawn = [0 for _ in near]
-    draw_along(drawn, ring + ring[:1])
+    _draw_along(drawn, ring + ring[:1])
     ways = []
     while drawn != near:
         old = sum([1 << k for k, mark in enumerate(drawn) if mark])
         start = [k for k in bits_of(old) if drawn[k] != near[k]][0]
         step = bits_of(near[start] & ~drawn[start])[0]
         goals = old & ~(1 << start)
-        way = (start,) + shortest_way(near, step, whole & ~(1 << start), goals)
-        draw_along(drawn, way)
+        way = (start,) + shortest_way(near, 1 << step, whole & ~(1 << start), goals)
+        _draw_along(drawn, way)
         ways.append(way)
     named = [tuple([web.places[k] for k in way]) for way in ways]
     return _told_ears(web, tuple([web.places[k] for k in ring]), named)
+
+
+def _draw_along(drawn, way):
+    """Notes in the marks of the drawn ties that those along a way are drawn."""
+    for i, j in zip(way, way[1:]):
+        drawn[i] = drawn[i] | (1 << j)
+        drawn[j] = drawn[j] | (1 << i)
 
 
 def _told_ears(web, ring, ways):

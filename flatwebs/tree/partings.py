@@ -1,8 +1,8 @@
 """The blocks of a web, and the places that part it."""
 
 from flatwebs.base.marks import (
-    bits_of, full_mark, is_one_lot, lot_marks, mark_of, marked, near_marks)
-from flatwebs.base.webs import all_pairs, need_block, need_places, need_tied, need_web, pair_of, web_on
+    are_joined, bits_of, full_mark, is_one_lot, lot_marks, mark_of, marked, near_marks)
+from flatwebs.base.webs import need_block, need_places, need_tied, need_web, pair_of, web_on
 from flatwebs.base.words import are_names, is_ascending
 from flatwebs.errors import InvalidOperation, InvalidPart
 
@@ -11,8 +11,8 @@ def cut_places(web):
     """The ascending tuple of the cut places."""
     need_web(web)
     near = near_marks(web.places, web.ties)
-    cuts = _cuts_of(near, full_mark(len(near)))
-    return tuple([web.places[k] for k in cuts])
+    cuts = [k for lot in lot_marks(near, full_mark(len(near))) for k in _cuts_of(near, lot)]
+    return tuple([web.places[k] for k in sorted(cuts)])
 
 
 def all_blocks(web):
@@ -21,7 +21,7 @@ def all_blocks(web):
     near = near_marks(web.places, web.ties)
     blocks = []
     for lot in lot_marks(near, full_mark(len(near))):
-        blocks = blocks + _blocks_within(near, lot)
+        blocks = blocks + blocks_within(near, lot)
     return tuple(sorted([marked(web.places, block) for block in blocks]))
 
 
@@ -68,9 +68,7 @@ def least_partings(web):
 def parting_pairs(web):
     """The ascending tuple of the pairs of places that part a block."""
     need_block(web)
-    near = near_marks(web.places, web.ties)
-    pairs = all_pairs(web.places)
-    return tuple([pair for pair in pairs if _parts(near, mark_of(web.places, pair))])
+    return tuple([marked(web.places, mark) for mark, _ in cuts_by_pairs(near_marks(web.places, web.ties))])
 
 
 def is_held(web):
@@ -86,29 +84,26 @@ def sides_at(web, a, b):
     near = near_marks(web.places, web.ties)
     if not _parts(near, mark_of(web.places, (a, b))):
         raise InvalidOperation("the two places do not part the web")
-    return _sides_without(web, near, pair_of(a, b))
+    pair = pair_of(a, b)
+    return _sides_by(web, pair, lot_marks(near, full_mark(len(near)) & ~mark_of(web.places, pair)))
 
 
 def sides_by_pair(web):
     """The dict from the pairs of places that part a block to their sides."""
-    near = near_marks(web.places, web.ties)
-    return {pair: _sides_without(web, near, pair) for pair in parting_pairs(web)}
+    sides = {}
+    for mark, lots in cuts_by_pairs(near_marks(web.places, web.ties)):
+        pair = marked(web.places, mark)
+        sides[pair] = _sides_by(web, pair, lots)
+    return sides
 
 
-def _sides_without(web, near, pair):
-    """The ascending tuple of the sides of an ascending pair of places."""
-    lots = lot_marks(near, full_mark(len(near)) & ~mark_of(web.places, pair))
+def _sides_by(web, pair, lots):
+    """The ascending tuple of the sides of an ascending pair of places, by the marks of the lots without it."""
     sides = [marked(web.places, lot) for lot in lots]
     return tuple([()] + sides) if pair in web.ties else tuple(sides)
 
 
-def _cuts_of(near, within):
-    """The indices of the cut places of the web of the places within a mark."""
-    lots = len(lot_marks(near, within))
-    return [k for k in bits_of(within) if len(lot_marks(near, within & ~(1 << k))) > lots]
-
-
-def _blocks_within(near, lot):
+def blocks_within(near, lot):
     """The marks of the blocks of a lot: it is cut at a cut place, and each piece again."""
     cuts = _cuts_of(near, lot)
     if not cuts:
@@ -116,8 +111,26 @@ def _blocks_within(near, lot):
     cut = 1 << cuts[0]
     blocks = []
     for piece in lot_marks(near, lot & ~cut):
-        blocks = blocks + _blocks_within(near, piece | cut)
+        blocks = blocks + blocks_within(near, piece | cut)
     return blocks
+
+
+def cuts_by_pairs(near):
+    """The marks of the pairs that part a block, by their places, each one with the lots without it."""
+    whole = full_mark(len(near))
+    cuts = []
+    for i, beside in enumerate(near):
+        for j in range(i + 1, len(near)):
+            rest = whole & ~(1 << i) & ~(1 << j)
+            # Each lot has neighbours of both places, so they part the block if those of one do not hang together.
+            if not are_joined(near, rest, beside & rest):
+                cuts.append((whole & ~rest, lot_marks(near, rest)))
+    return cuts
+
+
+def _cuts_of(near, lot):
+    """The indices of the cut places of a lot."""
+    return [k for k in bits_of(lot) if not is_one_lot(near, lot & ~(1 << k))]
 
 
 def _parts(near, mark):

@@ -7,25 +7,29 @@ from flatwebs.base.webs import (
 from flatwebs.base.words import is_ascending, is_count, is_naming
 from flatwebs.errors import InvalidOperation, InvalidNumber, InvalidPart
 from flatwebs.tree.partings import is_held
-from flatwebs.tree.splits import parts_of_block
+from flatwebs.tree.splits import Split
 
 
 class PartTree:
     """The parts of a block and the doors between them. It never changes."""
 
     def __init__(self, parts, doors):
-        if not _is_tree(parts, doors):
+        if isinstance(parts, Split):
+            # What a block was split into need not be judged again.
+            self._parts, self._doors = parts.told
+            self._joined = parts.block
+        elif _is_tree(parts, doors):
+            self._parts = parts
+            self._doors = doors
+            self._joined = _joined_web(parts)
+        else:
             raise InvalidPart("there is no tree with these parts and doors")
-        self._parts = parts
-        self._doors = doors
-        self._joined = _joined_web(parts)
 
     @classmethod
     def of_web(cls, web):
         """The tree of a block."""
         need_block(web)
-        parts, doors = parts_of_block(web)
-        return cls(parts, doors)
+        return cls(Split(web), ())
 
     @property
     def parts(self):

@@ -1,53 +1,63 @@
 """The parts into which a block falls, and the doors between them."""
 
-from flatwebs.base.marks import full_mark, lot_marks, mark_of, marked, near_marks
-from flatwebs.tree.partings import parting_pairs
+from flatwebs.base.marks import full_mark, marked, near_marks
+from flatwebs.tree.partings import cuts_by_pairs
 
 
-def parts_of_block(web):
-    """The parts of a block, ascending by their places, and its doors, ascending."""
-    cuts = _door_cuts(web)
-    pieces = [full_mark(len(web.places))]
+class Split:
+    """A block with its parts, ascending by their places, and its doors, ascending. It never changes."""
+
+    def __init__(self, block):
+        self.block = block
+        self.told = _parts_and_doors(block)
+
+
+def _parts_and_doors(block):
+    """The parts of a block and its doors."""
+    places = block.places
+    near = near_marks(places, block.ties)
+    cuts = _door_cuts(cuts_by_pairs(near))
+    pieces = [full_mark(len(near))]
     for pair, lots in cuts:
-        mark = mark_of(web.places, pair)
-        pieces = [piece & (lot | mark) for piece in pieces for lot in lots if piece & lot]
+        pieces = [piece & (lot | pair) for piece in pieces for lot in lots if piece & lot]
     pairs = [pair for pair, _ in cuts]
-    parts = [_part_of(web, pairs, marked(web.places, piece)) for piece in pieces]
+    at = {place: 1 << k for k, place in enumerate(places)}
+    ties = {at[a] | at[b]: (a, b) for a, b in block.ties}
+    parts = [_part_of(places, ties, pairs, piece) for piece in pieces]
     for pair, lots in cuts:
-        ties = tuple([tie for tie in web.ties if tie == pair])
-        if len(lots) + len(ties) > 2:
-            parts.append(("bundle", pair, ties))
+        if len(lots) > 2 or pair in ties:
+            parts.append(("bundle", marked(places, pair), (ties[pair],) if pair in ties else ()))
     parts = sorted(parts, key=lambda part: part[1])
-    doors = [door for pair in pairs for door in _doors_at(parts, pair)]
+    doors = [door for pair in pairs for door in _doors_at(parts, marked(places, pair))]
     return (tuple(parts), tuple(doors))
 
 
-def _door_cuts(web):
+def _door_cuts(cuts):
     """The pairs of the doors, each one with the marks of the lots of the web without it.
 
     A pair that parts the block is that of a door if no other such pair has its places on
     two of its sides; else both are places of one ring.
     """
-    near = near_marks(web.places, web.ties)
-    cuts = []
-    for pair in parting_pairs(web):
-        mark = mark_of(web.places, pair)
-        cuts.append((mark, pair, lot_marks(near, full_mark(len(near)) & ~mark)))
-    marks = [mark for mark, _, _ in cuts]
-    return [(pair, lots) for _, pair, lots in cuts if not any([_is_torn(other, lots) for other in marks])]
+    marks = [mark for mark, _ in cuts]
+    return [(pair, lots) for pair, lots in cuts if len(lots) > 2 or not _is_torn(marks, lots)]
 
 
-def _is_torn(mark, lots):
-    """Whether the two places of a mark are in two of these lots."""
-    return len([lot for lot in lots if mark & lot]) == 2
+def _is_torn(marks, lots):
+    """Whether the two places of some mark are in two lots."""
+    one, other = lots
+    for mark in marks:
+        if mark & one and mark & other:
+            return True
+    return False
 
 
-def _part_of(web, pairs, places):
-    """The ring or the held part with these places, of which the doors have these pairs."""
-    ties = [tie for tie in web.ties if tie[0] in places and tie[1] in places and tie not in pairs]
-    doors = [pair for pair in pairs if pair[0] in places and pair[1] in places]
-    kind = "ring" if len(ties) + len(doors) == len(places) else "held"
-    return (kind, places, tuple(ties))
+def _part_of(places, ties, pairs, piece):
+    """The ring or the held part with the places of a mark, of which the doors have these pairs."""
+    own = [ties[mark] for mark in ties if mark & piece == mark and mark not in pairs]
+    doors = [pair for pair in pairs if pair & piece == pair]
+    names = marked(places, piece)
+    kind = "ring" if len(own) + len(doors) == len(names) else "held"
+    return (kind, names, tuple(own))
 
 
 def _doors_at(parts, pair):

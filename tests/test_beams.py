@@ -235,7 +235,11 @@ class Beams(Case):
         late = ((("a", 0, 1, 2), ("b", 2, 1, 2), ("c", 1, 2, 2)), (("a", "b", 1), ("a", "c", 2), ("b", "c", 2)))
         self.is_bool(is_beams(ring.web, late), True)
         self.is_bool(are_beams_of(ring, ("a", "c", "b"), late), False)
-        # Another tie is at 0, and that of the ends to the right.
+        # Another tie is at 0, alone, and that of the ends to the right.
+        alone = ((("a", 0, 0, 2), ("b", 2, 1, 2), ("c", 1, 0, 1)), (("a", "b", 2), ("a", "c", 0), ("b", "c", 1)))
+        self.is_bool(is_beams(ring.web, alone), True)
+        self.assertEqual(drawing_of_beams(ring.web, alone), ring)
+        self.is_bool(are_beams_of(ring, ("a", "c", "b"), alone), False)
         right = ((("a", 0, 0, 1), ("b", 2, 0, 1), ("c", 1, 0, 0)), (("a", "b", 1), ("a", "c", 0), ("b", "c", 0)))
         self.is_bool(is_beams(ring.web, right), True)
         self.is_bool(are_beams_of(ring, ("a", "c", "b"), right), False)
@@ -268,7 +272,7 @@ class Lines(Case):
                  "beam a 0 0 1\n", "beam\na 0 0 1", "upright a b", "upright b a 0", "upright a a 0", "upright a b 0 0",
                  "upright a 0", "upright a b 00", "upright a b -1", "upright a b c", "upright a B 0", "level a 0 0 1",
                  "upright a b " + "1" * 61, "beam a 0 0 " + "9" * 61, "beam a " + "0" * 60 + " 0 0", "beam a 1_0 0 0",
-                 "upright 1 b 0", "beam  0 0 0", "upright a  0", *WRONG, *OBJECTS]
+                 "upright 1 b 0", "beam  0 0 0", "upright a  0", "beam a 0 0 \u00b2", *WRONG, *OBJECTS]
         for line in wrong:
             self.refuses(ParseError, beams_of_lines, KITE, line, number=0)
             self.refuses(ParseError, beams_of_lines, KITE, "beam a 0 0 1", line, None, number=1)

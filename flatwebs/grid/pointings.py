@@ -28,23 +28,21 @@ def any_pointing(drawing, rim):
     """
     web = drawing.web
     bound = (rim[0], rim[2], rim[1])
-    left = list(web.places)
     points = {place: [] for place in web.places}
     while len(bound) > 2:
         here = _free_place(web, bound)
         at = bound.index(here)
-        row = [one for one in turned_to(drawing.round_at(here), bound[at - 1]) if one in left]
-        fresh = tuple(row[1:row.index(bound[at + 1])])
+        row = turned_to(drawing.round_at(here), bound[at - 1])
+        fresh = row[1:row.index(bound[at + 1])]
         points[here] = points[here] + [bound[at - 1], bound[at + 1]]
         for one in fresh:
             points[one].append(here)
-        left.remove(here)
         bound = bound[:at] + fresh + bound[at + 1:]
     return {place: tuple(sorted(points[place])) for place in inner_places(drawing, rim)}
 
 
 def rings_of_three(drawing, rim):
-    """The rings of three inner places, each one counterclockwise, from its least place on, ascending."""
+    """The rings of three inner places, each one counterclockwise, from its least place on."""
     web = drawing.web
     places = inner_places(drawing, rim)
     rings = []
@@ -54,7 +52,7 @@ def rings_of_three(drawing, rim):
                 # The rims to the right of a ring that runs counterclockwise are those around it.
                 around = ring_sides(drawing, (a, b, c))[0]
                 rings.append((a, b, c) if rim in around else (a, c, b))
-    return sorted(rings)
+    return rings
 
 
 def points_round(pointing, ring):

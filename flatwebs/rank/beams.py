@@ -60,8 +60,8 @@ def are_beams_of(drawing, order, value):
     web = drawing.web
     if not is_beams(web, value) or [level[1] for level in value[0]] != [order.index(place) for place in web.places]:
         return False
-    # All other uprights are further to the right than the one at 0.
-    spots = [x for a, b, x in value[1] if x == 0 or order[0] in (a, b) and order[-1] in (a, b)]
+    # No other upright is at 0, too: its beams would be in the way of this one, from the lowest to the highest.
+    spots = [x for a, b, x in value[1] if order[0] in (a, b) and order[-1] in (a, b)]
     return spots == [0] and _told_table(value) == drawing.table
 
 

@@ -2,9 +2,9 @@
 
 from flatwebs.base.drawings import steps_of
 from flatwebs.base.marks import bits_of, full_mark, near_marks, shortest_way
-from flatwebs.base.rings import is_plain, is_ring, is_route, plain_ring, turned_to
+from flatwebs.base.rings import is_plain, is_route, plain_ring, turned_to
 from flatwebs.base.webs import Web, is_web_of, need_tied, need_web, ties_along, ties_round
-from flatwebs.base.words import are_different
+from flatwebs.base.words import are_names
 from flatwebs.errors import InvalidEars, InvalidOrder, InvalidTie
 from flatwebs.rank.orders import is_tied_order
 
@@ -18,7 +18,7 @@ def ears_of(web):
 def is_ears(web, value):
     """Whether the value is ears of the web."""
     need_web(web)
-    if not isinstance(value, tuple) or value == () or not _is_plain_ring(web, value[0]):
+    if not isinstance(value, tuple) or value == () or not is_plain(value[0]):
         return False
     seen = value[0]
     for entry in value[1:]:
@@ -40,7 +40,7 @@ def ears_with(web, a, b):
 
 def web_of_ears(ears):
     """The web with the places and ties on all entries."""
-    if not isinstance(ears, tuple) or ears == () or not all([are_different(entry, 2) for entry in ears]):
+    if not isinstance(ears, tuple) or ears == () or not all([are_names(entry) for entry in ears]):
         raise InvalidEars("no tuple of one or more entries")
     places = tuple(sorted(set([place for entry in ears for place in entry])))
     ties = tuple(sorted(_ties_on(ears)))
@@ -93,11 +93,6 @@ def ears_by_order(web, order):
     return _told_ears(web, ways[0], ways[1:])
 
 
-def _is_plain_ring(web, value):
-    """Whether the value is a plain ring of the web."""
-    return is_plain(value) and is_ring(web, value)
-
-
 def _ties_on(ears):
     """The ties on all entries, as often as they are there."""
     return ties_round(ears[0]) + [tie for entry in ears[1:] for tie in ties_along(entry)]
@@ -116,8 +111,7 @@ def _grown_ears(web, tie):
         old = sum([1 << k for k, mark in enumerate(drawn) if mark])
         start = [k for k in bits_of(old) if drawn[k] != near[k]][0]
         step = bits_of(near[start] & ~drawn[start])[0]
-        goals = old & ~(1 << start)
-        way = (start,) + shortest_way(near, 1 << step, whole & ~(1 << start), goals)
+        way = (start,) + shortest_way(near, 1 << step, whole & ~(1 << start), old)
         _draw_along(drawn, way)
         ways.append(way)
     named = [tuple([web.places[k] for k in way]) for way in ways]

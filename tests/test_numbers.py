@@ -27,6 +27,9 @@ FIRST = [
     (CUBE, "a: b c e|b: a f d|c: a d g|d: b h c|e: a g f|f: b e h|g: c h e|h: d f g"),
     (GLUED, "a: b c d e f|b: a f e d c|c: a b d|d: a c b|e: a b f|f: a e b"),
     (THREE, "a: x y z|b: x z y|x: a b|y: a b|z: a b"),
+    # The first ring of this one parts all other places into two lots.
+    (Web.of_ties(*[tuple(pair) for pair in "ab ac ad ae af ag bc be bf cd ce cf de dg eg".split()]),
+     "a: b f c d g e|b: a e c f|c: a f b e d|d: a c e g|e: a g d c b|f: a b c|g: a d e"),
     (Web.of_ties(("a", "b"), ("a", "d"), ("a", "f"), ("b", "f"), ("b", "i"), ("c", "d"), ("c", "f"), ("c", "h"),
                  ("e", "g"), ("e", "i"), ("g", "h")),
      "a: b d f|b: a f i|c: d h f|d: a c|e: g i|f: a c b|g: e h|h: c g|i: b e")]

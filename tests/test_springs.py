@@ -337,6 +337,7 @@ class Energy(Case):
             self.refuses(InvalidPicture, lambda one: energy(TWO, one, strengths=3), value)
             self.refuses(InvalidPicture, moved, TWO, value, None)
             self.refuses(InvalidPicture, moved, TWO, picture, value)
+            self.refuses(InvalidPicture, moved, TWO, value, picture)
             self.refuses(InvalidPicture, is_flat, TWO, value)
             self.refuses(InvalidPicture, drawing_shown, TWO, value)
         for value in [*WRONG[1:], *OBJECTS, {}, {("a", "b"): 0}, {("a", "b"): True}, {("a", "b"): 101}]:

@@ -130,7 +130,6 @@ def choice_by_rim(drawing, rim, a, b, lists):
 def choice_of(web, lists):
     """Any choice from lists of at least five integers, for a web that has a drawing."""
     _need_lists(web, lists)
-    need_hanging(web)
     bar = bar_of(web)
     if bar is not None:
         raise Undrawn(bar)

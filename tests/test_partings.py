@@ -74,6 +74,10 @@ class Blocks(Case):
         self.assertEqual(all_blocks(APART.with_place("z")), (("a", "b"), ("c", "d"), ("z",)))
         self.assertEqual([cut_places(FORTY), all_blocks(Web(TWELVE, ()))], [(), tuple((x,) for x in TWELVE)])
         row = Web.of_ties(*zip(TWELVE, TWELVE[1:]))
+        # Two lots, of which the first one has the greater cut place.
+        lots = Web.of_ties(("a", "e"), ("e", "f"), ("b", "c"), ("c", "d"))
+        self.assertEqual([cut_places(lots), all_blocks(lots)], [
+            ("c", "e"), (("a", "e"), ("b", "c"), ("c", "d"), ("e", "f"))])
         self.assertEqual([cut_places(row), all_blocks(row)], [TWELVE[1:-1], tuple(zip(TWELVE, TWELVE[1:]))])
 
     def test_block_with(self):
